@@ -1,0 +1,1 @@
+"""Looseorder: what a tongue of endings and loose order lets a hearer tell."""

@@ -1,0 +1,52 @@
+"""Rules "this role ahead of that one" and their closure."""
+
+from looseorder.errors import BadRules
+from looseorder.names import is_row, is_whole
+
+RULES_MOST = 30
+
+
+def check_rules(many, rules):
+    """The rules of a tongue of so many roles, ascending and each once."""
+    if not is_row(rules, 0, RULES_MOST):
+        raise BadRules(0, "many")
+    for index, rule in enumerate(rules):
+        if not _is_rule(many, rule):
+            raise BadRules(index, "rule")
+    if has_ring(rules):
+        raise BadRules(0, "ring")
+    return tuple(sorted(set([tuple(rule) for rule in rules])))
+
+
+def _is_rule(many, rule):
+    if not is_row(rule, 2, 2):
+        return False
+    return all([is_whole(role, 0, many - 1) for role in rule]) and rule[0] != rule[1]
+
+
+def closure_of(rules):
+    """All couples to which the rules lead, directly or by others, ascending."""
+    behind = {}
+    for ahead, role in rules:
+        behind.setdefault(ahead, []).append(role)
+    couples = []
+    for ahead in sorted(behind):
+        couples += [(ahead, role) for role in _reached(behind, ahead)]
+    return tuple(couples)
+
+
+def _reached(behind, start):
+    # The start itself is found only if a ring leads back to it.
+    found = set()
+    waiting = list(behind[start])
+    while waiting:
+        role = waiting.pop()
+        if role not in found:
+            found.add(role)
+            waiting.extend(behind.get(role, ()))
+    return sorted(found)
+
+
+def has_ring(rules):
+    """Whether the closure of the rules leads some role to itself."""
+    return any([ahead == role for ahead, role in closure_of(rules)])

@@ -1,0 +1,161 @@
+"""What several tests share: tongues to speak of, and plain walks through all that can be said."""
+
+from itertools import permutations, product
+from random import Random
+
+from looseorder.frames import Frame
+from looseorder.stocks import Stock
+from looseorder.tongues import Tongue
+
+NUMBERS = ("one", "many")
+
+
+class Sayable:
+    """Equal to nothing; stands for a thing of another class."""
+
+
+STRANGE = (None, True, False, 1.0, "", "x", b"x", {}, {0: 1}, object(), Sayable, range(2), frozenset())
+
+
+def refuses(test, error, told, call, *args, **more):
+    """The call raises just this error with just these attributes."""
+    with test.assertRaises(error) as caught:
+        call(*args, **more)
+    test.assertIs(type(caught.exception), error)
+    for name, value in told.items():
+        found = getattr(caught.exception, name)
+        test.assertEqual((type(found), found), (type(value), value), name)
+
+
+def are_tuples(thing):
+    """No list stands in the thing, however deep."""
+    if isinstance(thing, tuple):
+        return all(are_tuples(entry) for entry in thing)
+    return not isinstance(thing, (list, dict, set))
+
+
+def two_roles(rules=(), verbs="last"):
+    """Two roles shown alike in "one" by one stock; a frame with both and one with the first alone."""
+    noun = Stock("noun", [(0, ("a",), ("s",)), (1, ("a",), ("t",))])
+    return Tongue(["who", "whom"], [noun], [Frame("see", [0, 1]), Frame("go", [0])], rules, verbs)
+
+
+def nesting(verbs="last", agreed=None, rules=()):
+    """Noun roles 0 and 1, clause role 2 and far role 3; two stocks that do not bear all of them."""
+    noun = Stock("noun", [(0, ("a",), ("a", "s")), (1, ("a",), ("b",)), (3, ("",), ("x", "y"))])
+    thing = Stock("thing", [(1, ("a",), ("b",)), (3, ("b",), ("b",))])
+    frames = [Frame("say", [0, 1], 2, agreed), Frame("give", [0, 1, 3]), Frame("go", [0], None, 0),
+              Frame("hear", [1], 2)]
+    return Tongue(["who", "whom", "what", "far"], [noun, thing], frames, rules, verbs)
+
+
+def great():
+    """Six roles, five of them noun roles of one frame with a clause role, and four stocks and frames."""
+    stocks = [Stock("n", [(role, ("a",), ("b",)) for role in range(6)]),
+              Stock("m", [(0, ("a",), ("a",)), (5, ("c",), ("d",))]),
+              Stock("o", [(2, ("",), ("",))]),
+              Stock("p", [(1, ("a", "b"), ("a",)), (3, ("zzz",), ("",))])]
+    frames = [Frame("f", [0, 1, 2, 3, 4], 5, 2), Frame("g", [0]), Frame("h", [0, 5]), Frame("i", [4, 5], 0)]
+    names = ["aaaaaaaa", "b", "c", "d", "e", "zzzzzzzz"]
+    return Tongue(names, stocks, frames, [(0, 3), (3, 5)], "free")
+
+
+def some_tongues(count, seed, most_roles=4, verbs=None):
+    """Tongues of many kinds, the same ones in each run."""
+    source = Random(seed)
+    found = []
+    while len(found) < count:
+        many = source.randint(1, most_roles)
+        kind = verbs or source.choice(("first", "last", "free"))
+        found.append(_some_tongue(source, many, kind))
+    return found
+
+
+def _some_tongue(source, many, verbs):
+    roles = list(range(many))
+    parts = [("a",), ("b",), ("a", "b"), ("",)]
+    stocks = []
+    for name in "nm"[:source.randint(1, 2)]:
+        bears = roles if name == "n" else sorted(source.sample(roles, source.randint(1, many)))
+        stocks.append(Stock(name, [(r, source.choice(parts), source.choice(parts)) for r in bears]))
+    frames = []
+    for name in "fgh"[:source.randint(1, 3)]:
+        slots = sorted(source.sample(roles, source.randint(1, min(many, 4))))
+        clause = None
+        if name != "f" and len(slots) > 1:
+            clause = slots.pop(source.randrange(len(slots)))
+        frames.append(Frame(name, slots, clause, source.choice([None, source.choice(slots)])))
+    source.shuffle(frames)
+    row = source.sample(roles, many)
+    rules = [(row[i], row[j]) for i in range(many) for j in range(i + 1, many) if source.random() < 0.25]
+    return Tongue(["r" + chr(97 + r) for r in roles], stocks, frames, rules, verbs)
+
+
+def walk_closure(rules):
+    """The closure, by joining couples until nothing new comes."""
+    found = set(tuple(rule) for rule in rules)
+    while True:
+        more = {(a, d) for a, b in found for c, d in found if b == c} - found
+        if not more:
+            return tuple(sorted(found))
+        found |= more
+
+
+def keeps(tongue, row):
+    """No role stands behind one that it is ahead of; None is the verb."""
+    closure = walk_closure(tongue.rules)
+    return not any((row[j], row[i]) in closure for j in range(len(row)) for i in range(j))
+
+
+def walk_orders(tongue, frame):
+    """All orders of a frame, ascending."""
+    return [row for row in permutations(tongue.frames[frame].slots) if keeps(tongue, row)]
+
+
+def table_of(tongue, stock):
+    """The endings of a stock by role and number."""
+    return {(row[0], number): row[1 + at] for row in tongue.stocks[stock].table
+            for at, number in enumerate(NUMBERS)}
+
+
+def walk_patterns(tongue, frame):
+    """All patterns of a frame, by rows of roles, of stocks, of numbers."""
+    told = tongue.frames[frame]
+    found = []
+    for row in walk_orders(tongue, frame):
+        bearing = [[None] if role == told.clause else
+                   [s for s in range(len(tongue.stocks)) if (role, "one") in table_of(tongue, s)]
+                   for role in row]
+        numbers = [[None] if role == told.clause else list(NUMBERS) for role in row]
+        for stocks in product(*bearing):
+            for told_numbers in product(*numbers):
+                found.append(tuple(zip(row, stocks, told_numbers)))
+    return found
+
+
+def walk_shown(tongue, frame, pattern):
+    """The things and the heard number of a pattern."""
+    told = tongue.frames[frame]
+    things = tuple(None if stock is None else (stock, table_of(tongue, stock)[role, number])
+                   for role, stock, number in pattern)
+    heard = [number for role, _, number in pattern if told.agreed is not None and role == told.agreed]
+    return things, (heard[0] if heard else None)
+
+
+def fits(things, shown):
+    """Whether things, some with swallowed endings, can be what is shown."""
+    for thing, full in zip(things, shown):
+        if (thing is None) != (full is None):
+            return False
+        if thing is not None and (thing[0] != full[0] or thing[1] not in (None, full[1])):
+            return False
+    return True
+
+
+def walk_readings(tongue, frame, things, number):
+    """All readings, by their rows of roles and then of numbers, from all patterns."""
+    found = [pattern for pattern in walk_patterns(tongue, frame)
+             if walk_shown(tongue, frame, pattern)[1] == number
+             and fits(things, walk_shown(tongue, frame, pattern)[0])]
+    return sorted(found, key=lambda pattern: ([entry[0] for entry in pattern],
+                                              [NUMBERS.index(entry[2] or "one") for entry in pattern]))
