@@ -1,6 +1,6 @@
 """What several tests share: tongues to speak of, and plain walks through all that can be said."""
 
-from itertools import permutations, product
+from itertools import combinations, permutations, product
 from random import Random
 
 from looseorder.frames import Frame
@@ -101,15 +101,15 @@ def walk_closure(rules):
         found |= more
 
 
-def keeps(tongue, row):
+def keeps(closure, row):
     """No role stands behind one that it is ahead of; None is the verb."""
-    closure = walk_closure(tongue.rules)
     return not any((row[j], row[i]) in closure for j in range(len(row)) for i in range(j))
 
 
 def walk_orders(tongue, frame):
     """All orders of a frame, ascending."""
-    return [row for row in permutations(tongue.frames[frame].slots) if keeps(tongue, row)]
+    closure = walk_closure(tongue.rules)
+    return [row for row in permutations(tongue.frames[frame].slots) if keeps(closure, row)]
 
 
 def table_of(tongue, stock):
@@ -154,8 +154,25 @@ def fits(things, shown):
 
 def walk_readings(tongue, frame, things, number):
     """All readings, by their rows of roles and then of numbers, from all patterns."""
-    found = [pattern for pattern in walk_patterns(tongue, frame)
-             if walk_shown(tongue, frame, pattern)[1] == number
-             and fits(things, walk_shown(tongue, frame, pattern)[0])]
+    found = []
+    for pattern in walk_patterns(tongue, frame):
+        if [entry[1] for entry in pattern] == [thing and thing[0] for thing in things]:
+            shown, heard = walk_shown(tongue, frame, pattern)
+            if heard == number and fits(things, shown):
+                found.append(pattern)
     return sorted(found, key=lambda pattern: ([entry[0] for entry in pattern],
                                               [NUMBERS.index(entry[2] or "one") for entry in pattern]))
+
+
+def heard_things(tongues, most=12):
+    """Things and heard numbers of some patterns, with all lots of up to two endings swallowed."""
+    for tongue in tongues:
+        for frame in range(len(tongue.frames)):
+            patterns = walk_patterns(tongue, frame)
+            for pattern in patterns[::max(1, len(patterns) // most)]:
+                things, number = walk_shown(tongue, frame, pattern)
+                nouns = [place for place, thing in enumerate(things) if thing is not None]
+                for size in (0, 1, 2, len(nouns)):
+                    for places in combinations(nouns, size):
+                        hidden = [(t[0], None) if at in places else t for at, t in enumerate(things)]
+                        yield tongue, frame, tuple(hidden), number

@@ -8,7 +8,7 @@ from looseorder.errors import (BadEnding, BadFrame, BadNumber, BadRules, BadStoc
 from looseorder.frames import Frame
 from looseorder.stocks import Stock
 from looseorder.tongues import Tongue, check_frame, check_role, check_stock
-from support import STRANGE, are_tuples, great, nesting, refuses, some_tongues, two_roles, walk_closure
+from support import STRANGE, are_tuples, great, nesting, refuses, some_tongues, walk_closure
 
 NOUN = Stock("noun", [(0, ("a",), ("b",)), (1, ("c",), ("d",))])
 FAR = Stock("far", [(2, ("a",), ("b",))])
