@@ -39,7 +39,7 @@ def _told_noun(tongue, word):
     if len(parts) != 3 or not is_stem(parts[0]):
         return None
     stock = place_of_name(tongue.stocks, parts[1])
-    ending = None if parts[2] == "?" else ending_from_text(parts[2])
+    ending = ending_from_text(parts[2])
     if stock is None or (ending is None and parts[2] != "?"):
         return None
     return ("noun", parts[0], stock, ending)

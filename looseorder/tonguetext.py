@@ -111,9 +111,9 @@ def _told_stock(names, words):
 
 def _told_cell(names, word):
     name, _, endings = word.partition(":")
-    one, slash, many = endings.partition("/")
+    one, _, many = endings.partition("/")
     cell = (_role_named(names, name), ending_from_text(one), ending_from_text(many))
-    return None if slash == "" or None in cell else cell
+    return None if None in cell else cell
 
 
 def _role_named(names, name):

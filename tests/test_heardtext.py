@@ -60,7 +60,8 @@ class ReadTest(unittest.TestCase):
         for word in ("", "x", "Go", "go.", "go.two", "go.one.many", ".one", "go.One", "go_one", "[",
                      "]", "a:noun:", "a:noun", "a:noun:a", "a:noun:-A", "a:noun:-1", "a:noun:??", "a:noun:-?",
                      "a:noun:?-", "a:noun:who", "a:who:-a", ":noun:-a", "abcdefg:noun:-a", "A:noun:-a", "a::-a",
-                     "a:noun:-a:-b", "a:noun:-a.many", "a:noun:?.many", "who", "noun", "-a", "?", "a:noun:-a\n", "go:one",
+                     "a:noun:-a:-b", "a:noun:-a.many", "a:noun:?.many", "who", "noun", "-a", "?", "a:noun:-a\n",
+                     "go:one",
                      "a:noun:-\u00e9", "a:go:-a", "a:0:-a"):
             bad(self, 0, "word", word)
             bad(self, 1, "word", f"go {word} x")

@@ -54,6 +54,7 @@ class CheckTest(unittest.TestCase):
         for stock in (*STRANGE, -1, 1, 2, 10 ** 30, [0], "0"):
             bad(self, 0, "stock", nesting(), 0, [(0, stock, "x"), None, None])
         bad(self, 0, "stock", nesting(), 0, [(1, 2, "one"), None, None])
+        bad(self, 0, "stock", two_roles(), 0, [(1, -1, "one"), None])
         for stock in (*STRANGE[1:], 0, 1):
             bad(self, 0, "stock", nesting(), 0, [(2, stock, 1), None, None])
 

@@ -338,7 +338,8 @@ class TwoTest(unittest.TestCase):
     def test_errors_of_all(self):
         for call in (shapes_of, count_readings, two_readings, lambda *args: list(readings_of(*args)),
                      lambda *args: why_sure(*args, None)):
-            for index, what, heard in ((0, "many", []), (0, "many", None), (0, "many", [n()] * 15), (1, "piece", [n(), 5]),
+            for index, what, heard in ((0, "many", []), (0, "many", None), (0, "many", [n()] * 15),
+                                       (1, "piece", [n(), 5]),
                                        (0, "stem", [n(stem="")]), (0, "stock", [("noun", "a", 1, None)]),
                                        (0, "ending", [n(())]), (0, "frame", [v(2)]), (1, "number", [n(), v(1, "one")])):
                 refuses(self, BadHeard, {"index": index, "what": what}, call, two_roles(), heard)

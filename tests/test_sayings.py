@@ -90,9 +90,18 @@ class MakeTest(unittest.TestCase):
         bad(self, 0, "long", tongue, 2, [("noun", "y", 0, 0, "one"), ("clause", 5, inner), VERB])
 
 
+    def test_fifteen(self):
+        tongue = long_tongue()
+        inner = Saying(tongue, 3, [("noun", "x", 0, 0, "one"), ("noun", "x", 0, 1, "one"), VERB])
+        nouns = [("noun", "y", 0, role, "one") for role in range(5)]
+        inner = Saying(tongue, 0, [*nouns, ("clause", 5, inner), VERB])
+        self.assertEqual(inner.size, 9)
+        bad(self, 0, "long", tongue, 0, [*nouns, ("clause", 5, inner), VERB])
+
+
 def long_tongue():
     stocks = [Stock("n", [(role, ("a",), ("b",)) for role in range(5)]), Stock("m", [(0, ("a",), ("b",))])]
-    frames = [Frame("f", (0, 1, 2, 3, 4), 5), Frame("g", (0,)), Frame("h", (0,), 5)]
+    frames = [Frame("f", (0, 1, 2, 3, 4), 5), Frame("g", (0,)), Frame("h", (0,), 5), Frame("i", (0, 1))]
     return Tongue(list("abcdef"), stocks, frames)
 
 

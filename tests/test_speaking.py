@@ -121,6 +121,21 @@ class SameTest(unittest.TestCase):
         self.assertIs(has_same_roles(one, one), True)
         self.assertIs(has_same_roles(plain_saying(nesting(), 0), plain_saying(nesting(), 3)), False)
 
+    def test_tongues_whose_frames_have_other_slots(self):
+        def made(frame, *items):
+            stock = Stock("n", [(0, ("a",), ("b",)), (1, ("a",), ("b",))])
+            return Saying(Tongue(["a", "b"], [stock], [frame, Frame("g", (0,))], (), "free"), 0, items)
+        who, whom = [("noun", "x", 0, role, "one") for role in range(2)]
+        short = made(Frame("f", (0,)), who, VERB)
+        longer = made(Frame("f", (0, 1)), who, VERB, whom)
+        self.assertIs(has_same_roles(short, longer), False)
+        self.assertIs(has_same_roles(longer, short), False)
+        clause = Tongue(["a", "b"], short.tongue.stocks, [Frame("f", (0,), 1), Frame("g", (0,))], (), "free")
+        inner = Saying(clause, 1, [who, VERB])
+        other = Saying(clause, 0, [who, VERB, ("clause", 1, inner)])
+        self.assertIs(has_same_roles(longer, other), False)
+        self.assertIs(has_same_roles(other, longer), False)
+
     def test_unlike_roles(self):
         tongue = two_roles()
         one = Saying(tongue, 0, [("noun", "a", 0, 0, "one"), ("noun", "b", 0, 1, "one"), VERB])

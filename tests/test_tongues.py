@@ -81,6 +81,7 @@ class MakeTest(unittest.TestCase):
         for stock in (*STRANGE, SEE, ("far", FAR.table), FAR, Stock("noun", [(0, ("x",), ("y",))])):
             bad(self, 1, "stock", ["who", "whom"], [NOUN, stock, FAR], [SEE])
         bad(self, 0, "stock", ["who", "whom"], [FAR], [SEE])
+        bad(self, 0, "stock", ["who", "whom"], [Stock("n", [*NOUN.table, (5, ("a",), ("b",))])], [SEE])
 
     def test_frames(self):
         many = [Frame(name, SEE.nouns) for name in "abcde"]

@@ -105,7 +105,8 @@ class ReadTest(unittest.TestCase):
         for row in ("frame", "frame say", "frame say ", "frame say [what]", "frame Say who", "frame abcdefghi who",
                     "frame say you", "frame say who [you]", "frame say [what] who", "frame say who [what] [far]",
                     "frame say who! whom!", "frame say who!!", "frame say who [what]!", "frame say who [what!]",
-                    "frame say who []", "frame say who [", "frame say who ]", "frame say who [what", "frame say who what]",
+                    "frame say who []", "frame say who [", "frame say who ]", "frame say who [what",
+                    "frame say who what]", "frame say who [whatx", "frame say who xwhat]",
                     "frame say !", "frame say who  whom", "frame say who ", "frame  who", "frame say !who",
                     "frame say who [ what ]", "frame say who! who!", "frame who"):
             bad(self, 3, put(3, row))

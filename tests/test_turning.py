@@ -106,7 +106,8 @@ class SayingTest(unittest.TestCase):
     def test_clauses_are_led_too(self):
         tongue = nesting(rules=[(0, 1)])
         inner = Saying(tongue, 2, [("noun", "c", 0, 0, "many"), VERB])
-        saying = Saying(tongue, 0, [("noun", "a", 0, 0, "one"), ("clause", 2, inner), ("noun", "b", 1, 1, "many"), VERB])
+        saying = Saying(tongue, 0, [("noun", "a", 0, 0, "one"), ("clause", 2, inner), ("noun", "b", 1, 1, "many"),
+                                    VERB])
         other = turned_tongue(tongue, (3, 0, 1, 2))
         led = Saying(other, 2, [("noun", "c", 0, 3, "many"), VERB])
         expected = [("noun", "a", 0, 3, "one"), ("clause", 1, led), ("noun", "b", 1, 0, "many"), VERB]
