@@ -1,7 +1,7 @@
 """The readings of one clause."""
 
 from looseorder.errors import NoReading
-from looseorder.patterns import rows_within
+from looseorder.rulings import rows_within
 from looseorder.shown import bearers, check_place, check_things, noun_places
 
 
@@ -67,7 +67,7 @@ def rows_read(tongue, frame, things, number):
     """The rows of roles of the readings, ascending, each with the entries that can stand at its places."""
     told = check_things(tongue, frame, things, number)
     entries = [_entries_by_role(tongue, frame, thing, number) for thing in told]
-    rows = rows_within(tongue, tongue.frames[frame].slots, entries)
+    rows = rows_within(tongue.closure, tongue.frames[frame].slots, entries)
     return [(row, [entries[place][role] for place, role in enumerate(row)]) for row in rows]
 
 

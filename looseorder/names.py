@@ -20,9 +20,19 @@ def is_among(thing, wholes):
     return is_whole(thing) and thing in wholes
 
 
-def is_row(thing, low, high):
-    """Whether the thing is a sequence of low to high entries."""
-    return isinstance(thing, (list, tuple)) and low <= len(thing) <= high
+def is_row(thing, low=0, high=None):
+    """Whether the thing is a sequence of low to high entries; an end that is None is not asked."""
+    return isinstance(thing, (list, tuple)) and len(thing) >= low and (high is None or len(thing) <= high)
+
+
+def are_unlike_of(thing, wholes):
+    """Whether the thing is a sequence of unlike ones of these whole numbers."""
+    return is_row(thing) and all([is_among(whole, wholes) for whole in thing]) and len(set(thing)) == len(thing)
+
+
+def is_each_once(thing, wholes):
+    """Whether the thing is a sequence of all these unlike whole numbers, each once, in any order."""
+    return are_unlike_of(thing, wholes) and len(thing) == len(wholes)
 
 
 def are_letters(text):

@@ -2,6 +2,7 @@
 
 from looseorder.errors import BadPattern
 from looseorder.names import is_among, is_number, is_row, is_whole
+from looseorder.rulings import first_row, rows_keeping
 from looseorder.tongues import check_frame
 
 
@@ -46,45 +47,33 @@ def first_against(tongue, roles):
     return None
 
 
-def foremost(tongue, roles):
-    """Those of the roles, in their order, that no other one of them is ahead of."""
-    return [role for role in roles if not any([tongue.is_ahead(other, role) for other in roles])]
-
-
-def rows_within(tongue, roles, allowed):
-    """All rows of the roles, ascending, that keep the closure and have an allowed role at each place.
-
-    The roles are ascending; allowed tells of the last places, one for each of the roles.
-    """
-    if len(roles) == 0:
-        return [()]
-    rows = []
-    for role in foremost(tongue, roles):
-        if role in allowed[0]:
-            left = [other for other in roles if other != role]
-            rows += [(role, *row) for row in rows_within(tongue, left, allowed[1:])]
-    return rows
-
-
 def bearers_of_role(tongue, role):
     """The stocks that bear the role, ascending."""
     return [stock for stock, told in enumerate(tongue.stocks) if role in told.borne]
 
 
+def rows_of_frame(tongue, frame):
+    """All orders of a frame, ascending."""
+    check_frame(tongue, frame)
+    return rows_keeping(tongue.closure, tongue.frames[frame].slots)
+
+
 def plain_pattern(tongue, frame):
     """The pattern with the least order, the first stocks that do, and "one" everywhere."""
     check_frame(tongue, frame)
-    told = tongue.frames[frame]
-    pattern = []
-    left = told.slots
-    while len(left) > 0:
-        role = foremost(tongue, left)[0]
-        if role == told.clause:
-            pattern.append((role, None, None))
-        else:
-            pattern.append((role, bearers_of_role(tongue, role)[0], "one"))
-        left = [other for other in left if other != role]
-    return tuple(pattern)
+    return filled_row(tongue, frame, first_row(tongue.closure, tongue.frames[frame].slots), ())
+
+
+def filled_row(tongue, frame, row, told):
+    """The pattern with this row of roles and the told entries, and the plainest entries for the other roles."""
+    entries = {entry[0]: entry for entry in told}
+    return tuple([entries.get(role, _plain_entry(tongue, frame, role)) for role in row])
+
+
+def _plain_entry(tongue, frame, role):
+    if role == tongue.frames[frame].clause:
+        return role, None, None
+    return role, bearers_of_role(tongue, role)[0], "one"
 
 
 def row_of_roles(pattern):

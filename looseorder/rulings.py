@@ -50,3 +50,43 @@ def _reached(behind, start):
 def has_ring(rules):
     """Whether the closure of the rules leads some role to itself."""
     return any([ahead == role for ahead, role in closure_of(rules)])
+
+
+def does_keep(row, rules):
+    """Whether the row has the first role of each rule before the second; it has all roles of the rules."""
+    return all([row.index(ahead) < row.index(behind) for ahead, behind in rules])
+
+
+def foremost(closure, roles):
+    """Those of the roles, in their order, that no other one of them is ahead of."""
+    return [role for role in roles if not any([(other, role) in closure for other in roles])]
+
+
+def rows_within(closure, roles, allowed):
+    """All rows of the roles, ascending, that keep the closure and have an allowed role at each place.
+
+    The roles are ascending; allowed tells of the last places, one for each of the roles.
+    """
+    if len(roles) == 0:
+        return [()]
+    rows = []
+    for role in foremost(closure, roles):
+        if role in allowed[0]:
+            left = [other for other in roles if other != role]
+            rows += [(role, *row) for row in rows_within(closure, left, allowed[1:])]
+    return rows
+
+
+def rows_keeping(closure, roles):
+    """All rows of the ascending roles, ascending, that keep the closure."""
+    return rows_within(closure, roles, [roles] * len(roles))
+
+
+def first_row(closure, roles):
+    """The least row of the ascending roles that keeps the closure."""
+    row = []
+    left = roles
+    while len(left) > 0:
+        row.append(foremost(closure, left)[0])
+        left = [role for role in left if role != row[-1]]
+    return tuple(row)

@@ -3,9 +3,8 @@
 from looseorder.errors import NoReading
 from looseorder.flat import choices_of, role_rows
 from looseorder.names import NUMBERS
-from looseorder.patterns import bearers_of_role, row_of_roles, rows_within
+from looseorder.patterns import bearers_of_role, row_of_roles, rows_of_frame
 from looseorder.shown import noun_places, shown_things
-from looseorder.tongues import check_frame
 
 
 class Most:
@@ -21,16 +20,9 @@ class Most:
                 and self.number == other.number)
 
 
-def _all_rows(tongue, frame):
-    # Each row of roles that is an order of the frame, ascending.
-    check_frame(tongue, frame)
-    slots = tongue.frames[frame].slots
-    return rows_within(tongue, slots, [slots] * len(slots))
-
-
 def all_patterns(tongue, frame):
     """All patterns of a frame, by their rows of roles, then of stocks, then of numbers."""
-    for row in _all_rows(tongue, frame):
+    for row in rows_of_frame(tongue, frame):
         clause = tongue.frames[frame].clause
         stock_rows = [[None] if role == clause else bearers_of_role(tongue, role) for role in row]
         number_rows = [[None] if role == clause else NUMBERS for role in row]
@@ -41,7 +33,7 @@ def all_patterns(tongue, frame):
 
 def count_patterns(tongue, frame):
     """How many patterns a frame has."""
-    many = len(_all_rows(tongue, frame))
+    many = len(rows_of_frame(tongue, frame))
     for role in tongue.frames[frame].nouns:
         many *= len(NUMBERS) * len(bearers_of_role(tongue, role))
     return many
@@ -70,13 +62,13 @@ def most_rows(tongue, frame):
     return Most(many, things, number)
 
 
-def _lots_of(places, size):
-    # All lots of so many of the ascending places, ascending.
+def lots_of(places, size):
+    """All lots of so many of the ascending places, ascending."""
     if size == 0:
         return [()]
     lots = []
     for at, place in enumerate(places):
-        lots += [(place, *lot) for lot in _lots_of(places[at + 1:], size - 1)]
+        lots += [(place, *lot) for lot in lots_of(places[at + 1:], size - 1)]
     return lots
 
 
@@ -91,6 +83,6 @@ def asking_lots(tongue, frame, things, number):
         raise NoReading()
     places = noun_places(things)
     size = 0
-    while not any([_does_settle(rows, lot) for lot in _lots_of(places, size)]):
+    while not any([_does_settle(rows, lot) for lot in lots_of(places, size)]):
         size += 1
-    return tuple([lot for lot in _lots_of(places, size) if _does_settle(rows, lot)])
+    return tuple([lot for lot in lots_of(places, size) if _does_settle(rows, lot)])

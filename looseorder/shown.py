@@ -87,7 +87,7 @@ def noun_places(things):
 
 def check_places(places, nouns):
     """The places, told in ascending order, if each is one of those of the nouns."""
-    if not isinstance(places, (list, tuple)):
+    if not is_row(places):
         raise BadPlaces()
     last = -1
     for place in places:

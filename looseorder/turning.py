@@ -2,7 +2,7 @@
 
 from looseorder.errors import BadStems, BadTurn
 from looseorder.frames import Frame
-from looseorder.names import is_row, is_stem, is_whole
+from looseorder.names import is_each_once, is_row, is_stem
 from looseorder.sayings import Saying
 from looseorder.stocks import Stock
 from looseorder.tongues import Tongue
@@ -10,10 +10,7 @@ from looseorder.tongues import Tongue
 
 def check_turn(tongue, turn):
     """The turn, a row of all roles, each once, as a tuple."""
-    many = len(tongue.roles)
-    if not is_row(turn, many, many) or not all([is_whole(role) for role in turn]):
-        raise BadTurn()
-    if sorted(turn) != list(range(many)):
+    if not is_each_once(turn, list(range(len(tongue.roles)))):
         raise BadTurn()
     return tuple(turn)
 

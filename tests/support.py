@@ -176,3 +176,56 @@ def heard_things(tongues, most=12):
                     for places in combinations(nouns, size):
                         hidden = [(t[0], None) if at in places else t for at, t in enumerate(things)]
                         yield tongue, frame, tuple(hidden), number
+
+
+def one_frame(table, rules=(), agreed=None):
+    """One stock with this table, and one frame with all its roles as noun roles."""
+    roles = [row[0] for row in table]
+    return Tongue(["r" + chr(97 + role) for role in roles], [Stock("noun", table)],
+                  [Frame("see", roles, None, agreed)], rules)
+
+
+def all_alike(many, rules=(), agreed=None):
+    """One frame of so many noun roles, all of them shown by one ending."""
+    return one_frame([(role, ("a",), ("a",)) for role in range(many)], rules, agreed)
+
+
+def words(text, size):
+    """A table of so many roles from letters: "aa ab" shows role 0 by a, a and role 1 by a, b."""
+    return [(role, (row[0],), (row[1],)) for role, row in enumerate(text.split()[:size])]
+
+
+def four_stocks(rules=(), agreed=0):
+    """Four stocks that bear some of four roles each, and four frames of one to three slots."""
+    stocks = [Stock("n", words("ab ab cd ef", 4)), Stock("m", [(1, ("a",), ("b",)), (2, ("b",), ("b",))]),
+              Stock("o", [(0, ("",), ("x",)), (3, ("x",), ("",))]), Stock("p", [(2, ("a", "b"), ("a",))])]
+    frames = [Frame("f", [0, 1, 2], None, agreed), Frame("g", [2, 3]), Frame("h", [3]), Frame("i", [1, 2], 0, 1)]
+    return Tongue(["w", "x", "y", "z"], stocks, frames, rules)
+
+
+def walk_alike(tongue, frame):
+    """The lots of patterns that are heard alike."""
+    lots = {}
+    for pattern in walk_patterns(tongue, frame):
+        lots.setdefault(walk_shown(tongue, frame, pattern), []).append(pattern)
+    return list(lots.values())
+
+
+def roles_in(pattern):
+    return tuple(entry[0] for entry in pattern)
+
+
+def walk_is_clear(tongue, frame):
+    """No two patterns that are heard alike have unlike roles."""
+    return all(len({roles_in(pattern) for pattern in lot}) == 1 for lot in walk_alike(tongue, frame))
+
+
+def walk_rings(tongue, frame):
+    """The steps of all rings: any two patterns that are heard alike with unlike roles, place by place."""
+    found = set()
+    for lot in walk_alike(tongue, frame):
+        for said, read in product(lot, repeat=2):
+            if roles_in(said) != roles_in(read):
+                found.add(tuple(sorted((a[0], b[0], a[1], a[2], b[2]) for a, b in zip(said, read)
+                                       if a[1] is not None)))
+    return sorted(found)

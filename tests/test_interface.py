@@ -2,7 +2,9 @@
 
 import unittest
 from importlib import import_module
-from inspect import isclass, isfunction, signature
+from inspect import Parameter, isclass, isfunction, isgeneratorfunction, signature
+
+from support import Sayable
 
 FUNCTIONS = {
     "names": ("is_whole(thing, low=None, high=None); is_name(thing, most); is_number(thing); is_ending(thing); "
@@ -28,7 +30,29 @@ FUNCTIONS = {
               "roles_heard(saying)"),
     "readings": ("shapes_of(tongue, heard); readings_of(tongue, heard); count_readings(tongue, heard); "
                  "two_readings(tongue, heard); why_sure(tongue, heard, place)"),
+    "orderings": "sayings_of(tongue, frame, nouns, inner=None); count_sayings(tongue, frame)",
+    "coincide": ("coinciding(tongue, frame); coinciding_couples(tongue, frame); exchanges_of(tongue); "
+                 "first_exchange(tongue); clear_frames(tongue); exchange_fault(tongue, exchange); "
+                 "exchange_patterns(tongue, exchange)"),
+    "counts": "check_counts(tongue, counts); counts_used(tongue, frame, pattern)",
+    "rings": ("led_back(couples, pairs); ring_fault(tongue, ring, counts=None); ring_patterns(tongue, ring); "
+              "taken_couples(tongue, frame); ring_taking(tongue, frame, role, goal); sure_nouns(tongue, frame)"),
+    "closed": ("closed_ring(tongue, counts); spoiling_counts(tongue); greatest_counts(tongue, counts=None)"),
+    "books": ("count_rows(size, book); parting_of(size, one, other); parting_fault(size, one, other, parting); "
+              "least_book(size, book)"),
+    "orders": ("orders_of(tongue, frame); how_many_orders(tongue, frame); check_order(tongue, frame, order); "
+               "order_place(tongue, frame, order); order_at(tongue, frame, place); "
+               "couples_apart(tongue, frame, one, other); way_of_orders(tongue, frame, one, other); "
+               "order_way_fault(tongue, frame, one, other, way)"),
+    "chains": "check_lot(tongue, lot); widest(tongue, lot); wide_fault(tongue, lot, wide)",
+    "endings": ("conflict_web(tongue, stock); fewest_endings(tongue, stock); fewest_for_numbers(tongue, stock); "
+                "with_fewest(tongue, numbers=False)"),
 }
+
+# Functions with a parameter that is passed by keyword alone.
+KEYWORD_ONLY = {"with_fewest": ["numbers"]}
+
+GENERATORS = ("flat_readings all_patterns all_shown readings_of sayings_of exchanges_of orders_of").split()
 
 CLASSES = {
     "stocks": ("Stock(name, table)", "borne endings", "ending_for(role, number)"),
@@ -40,7 +64,10 @@ CLASSES = {
     "sayings": ("Saying(tongue, frame, said)", "depth size inner", "noun_items()"),
 }
 
-RESULTS = {"flat": ("Sure(role)", "Two(one, other)"), "sayable": ("Most(many, things, number)",)}
+RESULTS = {"flat": ("Sure(role)", "Two(one, other)"), "sayable": ("Most(many, things, number)",),
+           "coincide": ("Exchange(frame, role, other, stock, number, mate)",), "rings": ("Ring(frame, steps)",),
+           "books": ("Parting(rule, row)",), "chains": ("Wide(lot, chains)",),
+           "endings": ("Fewest(least, colours)", "FewestPairs(least, pairs)")}
 
 
 def told(text):
@@ -61,6 +88,32 @@ class InterfaceTest(unittest.TestCase):
                 self.assertTrue(isfunction(call), function)
                 self.assertEqual(call.__module__, module.__name__, function)
                 self.assertEqual(written(call, False), parameters, function)
+                alone = [parameter.name for parameter in signature(call).parameters.values()
+                         if parameter.kind == Parameter.KEYWORD_ONLY]
+                self.assertEqual(alone, KEYWORD_ONLY.get(function, []), function)
+                self.assertEqual(isgeneratorfunction(call), function in GENERATORS, function)
+
+    def test_results_keep_what_they_are_given(self):
+        for name, heads in RESULTS.items():
+            for head in heads:
+                self.check_result(getattr(import_module(f"looseorder.{name}"), head.split("(")[0]), head)
+
+    def check_result(self, made, head):
+        fields = told(head)[0][1].split(", ")
+        given = [[field, object()] for field in fields]
+        result = made(*given)
+        for field, thing in zip(fields, given):
+            self.assertIs(getattr(result, field), thing)
+            self.assertEqual(vars(result).keys(), set(fields))
+        self.assertEqual(result, made(*given))
+        self.assertFalse(result != made(**dict(zip(fields, given))))
+        for at in range(len(fields)):
+            unlike = made(*given[:at], "unlike", *given[at + 1:])
+            self.assertNotEqual(result, unlike, fields[at])
+            self.assertNotEqual(unlike, result, fields[at])
+        for thing in (None, tuple(given), *given, Sayable(), type("Other", (), vars(result))()):
+            self.assertFalse(result == thing)
+            self.assertTrue(thing != result)
 
     def test_classes(self):
         for name, (head, properties, methods) in CLASSES.items():
