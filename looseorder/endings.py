@@ -66,12 +66,25 @@ def first_colours(nodes, web, sizes):
 
     The nodes of a couple of the web share no colour.
     """
-    least = max(sizes)
+    told = dict(zip(nodes, sizes))
+    # The nodes of a joined lot have unlike colours, so there is no row with fewer.
+    least = max([sum([told[node] for node in lot]) for lot in joined_lots(nodes, web)])
     lots = _coloured(nodes, web, sizes, least, ())
     while lots is None:
         least += 1
         lots = _coloured(nodes, web, sizes, least, ())
     return least, lots
+
+
+def joined_lots(nodes, web):
+    """All lots of nodes any two of which are a couple of the web, a greatest one last."""
+    joined = set(web)
+    found = []
+    longer = [()]
+    while len(longer) > 0:
+        found += longer
+        longer = [(*lot, node) for lot in longer for node in nodes if all([(mate, node) in joined for mate in lot])]
+    return found
 
 
 def _coloured(nodes, web, sizes, many, lots):

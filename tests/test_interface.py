@@ -47,12 +47,30 @@ FUNCTIONS = {
     "chains": "check_lot(tongue, lot); widest(tongue, lot); wide_fault(tongue, lot, wide)",
     "endings": ("conflict_web(tongue, stock); fewest_endings(tongue, stock); fewest_for_numbers(tongue, stock); "
                 "with_fewest(tongue, numbers=False)"),
+    "needed": ("all_coinciding(tongue); rules_needed(tongue); book_fault(tongue, book); all_least_books(tongue); "
+               "needless_rules(tongue); fewest_kept(tongue)"),
+    "freest": "freest(tongue); freest_in(tongue, frame)",
+    "trades": "can_trade(size); trade_tongue(size, endings, rules); trade_of(tongue, stock)",
+    "doubts": ("doubtful_roles(tongue, frame); first_doubt(tongue); same_numbers(tongue); same_fault(tongue, same); "
+               "same_patterns(tongue, same); told_numbers(tongue, frame, things, number)"),
+    "agreeing": ("with_agreement(tongue, choices); without_agreement(tongue); least_agreement(tongue); "
+                 "count_agreements(tongue); is_saved(tongue, frame, things, number)"),
+    "articles": ("check_article(tongue, stock, rows); with_article(tongue, stock, rows); "
+                 "article_web(tongue, stock, wholly=False); least_articles(tongue, stock, wholly=False); "
+                 "article_lot(tongue, stock, wholly=False); articles_fault(tongue, stock, wholly, articles)"),
+    "swallowing": ("first_swallowed(tongue, hidden); is_order_alone(tongue); swallowed_fault(tongue, swallowed); "
+                   "swallowed_patterns(tongue, swallowed)"),
+    "rolelots": ("lot_readings(tongue, frame, things, number, lot); swallow_lot(tongue, frame, pattern, lot); "
+                 "first_in_lot(tongue, lot); greatest_lots(tongue)"),
+    "stillsure": ("sure_roles(tongue, frame, things, number); is_left_sure(tongue, frame, pattern, places); "
+                  "most_swallowed(tongue, frame, pattern)"),
 }
 
 # Functions with a parameter that is passed by keyword alone.
 KEYWORD_ONLY = {"with_fewest": ["numbers"]}
 
-GENERATORS = ("flat_readings all_patterns all_shown readings_of sayings_of exchanges_of orders_of").split()
+GENERATORS = ("flat_readings all_patterns all_shown readings_of sayings_of exchanges_of orders_of "
+              "all_least_books lot_readings").split()
 
 CLASSES = {
     "stocks": ("Stock(name, table)", "borne endings", "ending_for(role, number)"),
@@ -67,7 +85,11 @@ CLASSES = {
 RESULTS = {"flat": ("Sure(role)", "Two(one, other)"), "sayable": ("Most(many, things, number)",),
            "coincide": ("Exchange(frame, role, other, stock, number, mate)",), "rings": ("Ring(frame, steps)",),
            "books": ("Parting(rule, row)",), "chains": ("Wide(lot, chains)",),
-           "endings": ("Fewest(least, colours)", "FewestPairs(least, pairs)")}
+           "endings": ("Fewest(least, colours)", "FewestPairs(least, pairs)"),
+           "needed": ("Needed(least, rules)",), "freest": ("Freest(most, rules)",),
+           "doubts": ("SameNumber(frame, role, stock)",),
+           "agreeing": ("Choices(agreed)", "TwoDoubtful(frame, role, other)"),
+           "articles": ("Articles(least, rows)",), "swallowing": ("Swallowed(exchange, hidden)",)}
 
 
 def told(text):

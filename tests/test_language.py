@@ -9,7 +9,7 @@ from pathlib import Path
 PACKAGE = Path(__file__).resolve().parent.parent / "looseorder"
 ORDER = ("errors names rulings stocks frames tongues patterns sayings speaking turning tonguetext sayingtext heardtext "
          "shown flat sayable heard readings orderings coincide counts rings closed books orders chains "
-         "endings").split()
+         "endings needed freest trades doubts agreeing articles swallowing rolelots stillsure").split()
 BUILTINS = set("len range enumerate zip min max sum abs sorted reversed int str bool bytes list tuple dict set "
                "frozenset isinstance ord repr any all divmod iter next super map ValueError property".split())
 METHODS = set("append clear copy count endswith extend find get index insert isalnum isalpha isdigit islower isspace "
