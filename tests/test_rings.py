@@ -17,7 +17,8 @@ def tongues():
     return some_tongues(40, 35, 3) + [
         two_roles(), two_roles([(1, 0)]), nesting(agreed=1, rules=[(0, 3)]), four_stocks(), four_stocks([(3, 0)]),
         all_alike(1), all_alike(3), all_alike(3, [(0, 1)]), all_alike(3, [(0, 1)], 2), all_alike(3, [(0, 1), (1, 2)]),
-        one_frame(words("ab bc ca", 3)), one_frame(words("ab bc ca", 3), (), 1), one_frame(words("ab bc ca", 3), [(0, 2)])]
+        one_frame(words("ab bc ca", 3)), one_frame(words("ab bc ca", 3), (), 1),
+        one_frame(words("ab bc ca", 3), [(0, 2)])]
 
 
 def frames_of(tongues):
@@ -225,6 +226,12 @@ class FaultTest(unittest.TestCase):
         for counts in (*STRANGE[1:], [1, 2, 3], [1, 2, 3, 15], [1, 2, 3, -1], [1, 2, 3, True]):
             refuses(self, BadCounts, {}, ring_fault, self.tongue, None, counts)
             refuses(self, BadCounts, {}, ring_fault, self.tongue, Ring(0, self.steps), counts)
+
+    def test_nothing_changes(self):
+        tongue, ring, counts = four_stocks(), Ring(0, self.steps), [2, 2, 2, 2]
+        ring_fault(tongue, ring, counts)
+        ring_patterns(tongue, ring)
+        self.assertEqual((tongue, ring, counts), (four_stocks(), Ring(0, self.steps), [2, 2, 2, 2]))
 
     def test_two_faults(self):
         self.fault("frame", None, 9)

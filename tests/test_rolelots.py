@@ -25,6 +25,10 @@ def lots_of(tongue):
     return [lot for size in range(many + 1) for lot in combinations(range(many), size)]
 
 
+def readings(*told):
+    return list(lot_readings(*told))
+
+
 def hide(things, pattern, lot):
     return tuple((thing[0], None) if thing is not None and entry[0] in lot else thing
                  for thing, entry in zip(things, pattern))
@@ -60,9 +64,9 @@ class ReadingsTest(unittest.TestCase):
     def test_against_all_readings(self):
         found = 0
         for tongue, frame, things, number in heard_things(tongues()[::2], 6):
-            readings = walk_readings(tongue, frame, things, number)
+            walked = walk_readings(tongue, frame, things, number)
             for lot in lots_of(tongue):
-                told = [reading for reading in readings
+                told = [reading for reading in walked
                         if all((thing[1] is None) == (entry[0] in lot)
                                for thing, entry in zip(things, reading) if thing is not None)]
                 self.assertEqual(list(lot_readings(tongue, frame, list(things), number, lot[::-1])), told)
@@ -80,15 +84,15 @@ class ReadingsTest(unittest.TestCase):
     def test_wrong(self):
         tongue = nesting()
         for frame in (4, -1, *STRANGE):
-            refuses(self, NoFrame, {"frame": frame}, lambda *told: list(lot_readings(*told)), tongue, frame, None, None, None)
+            refuses(self, NoFrame, {"frame": frame}, readings, tongue, frame, None, None, None)
         for told, index, what in (([], 0, "many"), ([5, None, None], 0, "thing"), ([None, None, None], 1, "clause")):
-            refuses(self, BadThings, {"index": index, "what": what}, lambda *told: list(lot_readings(*told)),
+            refuses(self, BadThings, {"index": index, "what": what}, readings,
                     tongue, 0, told, "x", [9])
         things = [(0, ("a",))]
-        refuses(self, BadThings, {"index": 0, "what": "number"}, lambda *told: list(lot_readings(*told)),
+        refuses(self, BadThings, {"index": 0, "what": "number"}, readings,
                 tongue, 2, things, None, [9])
         for lot, index in ((None, 0), ([0, 0], 1), ([1, 4], 1), ([True], 0), ({0: 1}, 0)):
-            refuses(self, BadLot, {"index": index}, lambda *told: list(lot_readings(*told)), tongue, 2, things, "one", lot)
+            refuses(self, BadLot, {"index": index}, readings, tongue, 2, things, "one", lot)
 
     def test_nothing_changes(self):
         things, lot = [[0, None], [0, ["a"]]], [1, 0]

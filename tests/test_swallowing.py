@@ -137,7 +137,8 @@ class FaultTest(unittest.TestCase):
     def test_all(self):
         for tongue in tongues()[::2]:
             exchanges = list(exchanges_of(tongue))
-            right = {(*row, number, mate, 2) for row in borne_together(tongue) for number in NUMBERS for mate in NUMBERS}
+            right = {(*row, number, mate, 2) for row in borne_together(tongue)
+                     for number in NUMBERS for mate in NUMBERS}
             right |= {(e.frame, e.role, e.other, e.stock, e.number, e.mate, 0) for e in exchanges}
             for frame in range(len(tongue.frames)):
                 for role, other in combinations(range(len(tongue.roles)), 2):
