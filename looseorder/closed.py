@@ -2,7 +2,7 @@
 
 from looseorder.coincide import clear_frames
 from looseorder.counts import COUNT_MOST, check_counts, does_fit, with_count
-from looseorder.rings import least_ring, right_goals
+from looseorder.rings import least_ring, pairs_moved, right_goals
 
 
 def _goals_of_tongue(tongue):
@@ -16,17 +16,13 @@ def closed_ring(tongue, counts):
     """The least right ring with at most so many steps of each stock, or None."""
     most = check_counts(tongue, counts)
     rows = _goals_of_tongue(tongue)
-    moved = [_steps_moved(tongue, frame, goals) for frame, goals, _ in rows]
+    moved = [len(pairs_moved(tongue.frames[frame].nouns, goals)) for frame, goals, _ in rows]
     for many in sorted(set(moved)):
         for at, (frame, goals, cells) in enumerate(rows):
             ring = least_ring(tongue, frame, goals, cells, most) if moved[at] == many else None
             if ring is not None:
                 return ring
     return None
-
-
-def _steps_moved(tongue, frame, goals):
-    return len([role for role, goal in zip(tongue.frames[frame].nouns, goals) if role != goal])
 
 
 def spoiling_counts(tongue):

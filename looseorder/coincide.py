@@ -2,7 +2,7 @@
 
 from looseorder.errors import BadExchange
 from looseorder.names import NUMBERS, is_among, is_number, is_whole
-from looseorder.patterns import filled_row, rows_of_frame
+from looseorder.patterns import bearers_of_role, filled_row, rows_of_frame
 from looseorder.tongues import check_frame
 
 
@@ -40,9 +40,17 @@ def are_shown_alike(tongue, stock, cell, mate):
 
 def shown_alike(tongue, role, other):
     """All rows (stock, number, mate) for which the stock shows the two roles alike, ascending."""
-    return [(stock, number, mate) for stock in common_bearers(tongue, role, other)
-            for number in NUMBERS for mate in NUMBERS
-            if are_shown_alike(tongue, stock, (role, number), (other, mate))]
+    return alike_across(tongue, tongue, role, other)
+
+
+def alike_across(one, other, role, goal):
+    """All rows (stock, number, mate) for which one tongue shows the role as the other shows the goal, ascending."""
+    found = []
+    for stock in bearers_of_role(one, role):
+        for number in NUMBERS:
+            ending = one.ending_at(stock, role, number)
+            found += [(stock, number, mate) for mate in NUMBERS if other.ending_at(stock, goal, mate) == ending]
+    return found
 
 
 def coinciding(tongue, frame):

@@ -35,6 +35,11 @@ def is_each_once(thing, wholes):
     return are_unlike_of(thing, wholes) and len(thing) == len(wholes)
 
 
+def in_tuples(thing):
+    """The thing with all sequences in it as tuples; what is no sequence stays."""
+    return tuple([in_tuples(entry) for entry in thing]) if is_row(thing) else thing
+
+
 def are_letters(text):
     """Whether a string has no character but a to z; an empty one has none."""
     return all(["a" <= letter <= "z" for letter in text])

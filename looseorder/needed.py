@@ -26,19 +26,19 @@ def all_coinciding(tongue):
                          for couple in coinciding_couples(tongue, frame)}))
 
 
-def _hanging_parts(couples):
-    # The lots of roles that the couples join, each ascending.
+def hanging_parts(couples):
+    """The lots of things that the couples join, directly or by others, each ascending."""
     parts = []
     for couple in couples:
         joined = [part for part in parts if couple[0] in part or couple[1] in part]
-        roles = [*couple, *[role for part in joined for role in part]]
-        parts = [part for part in parts if part not in joined] + [sorted(set(roles))]
+        things = [*couple, *[thing for part in joined for thing in part]]
+        parts = [part for part in parts if part not in joined] + [sorted(set(things))]
     return parts
 
 
 def rules_needed(tongue):
     """The fewest rules that make the tongue clear, its tables as they are."""
-    parts = _hanging_parts(all_coinciding(tongue))
+    parts = hanging_parts(all_coinciding(tongue))
     rules = tuple(sorted([rule for part in parts for rule in zip(part, part[1:])]))
     return Needed(len(rules), rules)
 

@@ -4,7 +4,7 @@ from looseorder.coincide import couples_of
 from looseorder.errors import NoOrder
 from looseorder.names import is_each_once, is_row, is_whole
 from looseorder.patterns import rows_of_frame
-from looseorder.rulings import does_keep
+from looseorder.rulings import does_keep, within
 from looseorder.tongues import check_frame
 
 
@@ -21,16 +21,15 @@ def how_many_orders(tongue, frame):
 def check_order(tongue, frame, order):
     """The order of a frame as a tuple."""
     check_frame(tongue, frame)
-    if not _is_order(tongue, frame, order):
+    if not is_order(tongue, frame, order):
         raise NoOrder()
     return tuple(order)
 
 
-def _is_order(tongue, frame, thing):
+def is_order(tongue, frame, thing):
+    """Whether the thing is a sequence that is an order of the frame."""
     slots = tongue.frames[frame].slots
-    if not is_each_once(thing, slots):
-        return False
-    return does_keep(thing, [couple for couple in tongue.closure if couple[0] in slots and couple[1] in slots])
+    return is_each_once(thing, slots) and does_keep(thing, within(tongue.closure, slots))
 
 
 def order_place(tongue, frame, order):
@@ -80,11 +79,11 @@ def _is_step(order, behind):
 def order_way_fault(tongue, frame, one, other, way):
     """The first word that tells why this is no way of fewest exchanges, or None."""
     apart = couples_apart(tongue, frame, one, other)
-    if not is_row(way, 1) or not _is_order(tongue, frame, way[0]) or tuple(way[0]) != tuple(one):
+    if not is_row(way, 1) or not is_order(tongue, frame, way[0]) or tuple(way[0]) != tuple(one):
         return "begin"
     before = tuple(one)
     for thing in way[1:]:
-        if not _is_order(tongue, frame, thing):
+        if not is_order(tongue, frame, thing):
             return "order"
         if not _is_step(before, tuple(thing)):
             return "step"

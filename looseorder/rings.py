@@ -1,11 +1,11 @@
 """Rings: misreadings of a whole pattern, in which each noun is read in the role of another."""
 
-from looseorder.coincide import are_shown_alike, common_bearers, shown_alike
+from looseorder.coincide import alike_across, are_shown_alike, common_bearers
 from looseorder.counts import check_counts, counts_of_stocks, does_fit, with_count
 from looseorder.errors import BadRing
 from looseorder.names import NUMBERS, is_among, is_each_once, is_number, is_whole, number_rank
 from looseorder.patterns import rows_of_frame
-from looseorder.rulings import does_keep, has_ring
+from looseorder.rulings import does_keep, has_ring, within
 from looseorder.tongues import check_frame, check_role
 
 
@@ -26,11 +26,10 @@ def led_back(couples, pairs):
     return tuple(sorted([(roles.get(ahead, ahead), roles.get(behind, behind)) for ahead, behind in couples]))
 
 
-def _demands(tongue, frame, pairs):
-    # Which slot must stand ahead of which one, as said and as read.
-    slots = tongue.frames[frame].slots
-    couples = tuple([couple for couple in tongue.closure if couple[0] in slots and couple[1] in slots])
-    return couples + led_back(couples, pairs)
+def demands_of(one, other, frame, pairs):
+    """Which slot must stand ahead of which one, as said in one tongue and as read by the other."""
+    slots = one.frames[frame].slots
+    return [*within(one.closure, slots), *led_back(within(other.closure, slots), pairs)]
 
 
 def _moves_of(ring):
@@ -83,12 +82,15 @@ def _cells_fault(tongue, steps):
 def _whole_fault(tongue, ring, moves):
     if len(moves) == 0:
         return "rest"
-    agreed = tongue.frames[ring.frame].agreed
-    said = [step[3] for step in ring.steps if step[0] == agreed]
-    read = [step[4] for step in ring.steps if step[1] == agreed]
-    if said != read:
+    if not is_agreed_kept(tongue.frames[ring.frame].agreed, ring.steps):
         return "agreed"
-    return "order" if has_ring(_demands(tongue, ring.frame, moves)) else None
+    return "order" if has_ring(demands_of(tongue, tongue, ring.frame, moves)) else None
+
+
+def is_agreed_kept(agreed, steps):
+    """Whether the noun of the agreed role is said in the number in which the noun read as it is read."""
+    said = [step[3] for step in steps if step[0] == agreed]
+    return said == [step[4] for step in steps if step[1] == agreed]
 
 
 def ring_patterns(tongue, ring):
@@ -96,7 +98,7 @@ def ring_patterns(tongue, ring):
     what = ring_fault(tongue, ring)
     if what is not None:
         raise BadRing(what)
-    demands = _demands(tongue, ring.frame, _moves_of(ring))
+    demands = demands_of(tongue, tongue, ring.frame, _moves_of(ring))
     row = [order for order in rows_of_frame(tongue, ring.frame) if does_keep(order, demands)][0]
     said = {step[0]: (step[0], step[2], step[3]) for step in ring.steps}
     read = {step[0]: (step[1], step[2], step[4]) for step in ring.steps}
@@ -105,19 +107,32 @@ def ring_patterns(tongue, ring):
             tuple([read.get(role, (role, None, None)) for role in row]))
 
 
-def right_goals(tongue, frame):
-    """The rows of goals of right rings, ascending, each with its cells for each heard number."""
-    told = tongue.frames[frame]
-    alike = {(role, goal): shown_alike(tongue, role, goal) for role in told.nouns for goal in told.nouns}
+def readable_goals(one, other, frame):
+    """The rows of goals, ascending, in which endings of one tongue can be read by the other, not all at rest.
+
+    Each stands with its cells for each heard number that is possible, "one" ahead of "many".
+    """
+    told = one.frames[frame]
+    alike = {(role, goal): alike_across(one, other, role, goal) for role in told.nouns for goal in told.nouns}
     options = [[goal for goal in told.nouns if len(alike[(role, goal)]) > 0] for role in told.nouns]
     found = []
     for goals in _goal_rows(options):
-        pairs = list(zip(told.nouns, goals))
-        cells = _cells_by_heard(told.agreed, pairs, alike)
-        moves = [pair for pair in pairs if pair[0] != pair[1]]
-        if len(moves) > 0 and len(cells) > 0 and not has_ring(_demands(tongue, frame, moves)):
+        cells = _cells_by_heard(told.agreed, list(zip(told.nouns, goals)), alike)
+        if goals != told.nouns and len(cells) > 0:
             found.append((goals, cells))
     return found
+
+
+def pairs_moved(nouns, goals):
+    """The pairs (role, goal) with unlike goals."""
+    return [(role, goal) for role, goal in zip(nouns, goals) if role != goal]
+
+
+def right_goals(tongue, frame):
+    """The rows of goals of right rings, ascending, each with its cells for each heard number."""
+    nouns = tongue.frames[frame].nouns
+    return [(goals, cells) for goals, cells in readable_goals(tongue, tongue, frame)
+            if not has_ring(demands_of(tongue, tongue, frame, pairs_moved(nouns, goals)))]
 
 
 def _goal_rows(options):

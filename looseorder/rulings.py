@@ -57,6 +57,11 @@ def does_keep(row, rules):
     return all([row.index(ahead) < row.index(behind) for ahead, behind in rules])
 
 
+def within(couples, roles):
+    """Those of the couples both of which are among the roles."""
+    return [couple for couple in couples if couple[0] in roles and couple[1] in roles]
+
+
 def foremost(closure, roles):
     """Those of the roles, in their order, that no other one of them is ahead of."""
     return [role for role in roles if not any([(other, role) in closure for other in roles])]

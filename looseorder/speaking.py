@@ -18,28 +18,29 @@ def pattern_of(saying):
 
 def saying_of(tongue, frame, pattern):
     """A saying with this pattern and the stems "a", "b", "c" and so on."""
-    return _said_from(tongue, frame, check_pattern(tongue, frame, pattern), 0)
+    told = check_pattern(tongue, frame, pattern)
+    without = [number for number, mate in enumerate(tongue.frames) if mate.clause is None]
+    return said_from(tongue, (frame, without[0]), told, 0)
 
 
-def _said_from(tongue, frame, pattern, start):
-    # The stems go on from the given letter, since an inner clause may stand behind nouns.
+def said_from(tongue, frames, pattern, start):
+    """The saying with this pattern of the first frame, and in its clause the plain patterns of the others.
+
+    The stems go on from the given letter, since an inner clause may stand behind nouns.
+    """
     items = []
     letter = start
     for role, stock, number in pattern:
         if stock is None:
-            item = ("clause", role, _plain_clause(tongue, letter))
+            plain = plain_pattern(tongue, frames[1])
+            item = ("clause", role, said_from(tongue, frames[1:], plain, letter))
         else:
             item = ("noun", LETTERS[letter], stock, role, number)
         items.append(item)
         letter += len(nouns_of_item(item))
     verb = 0 if tongue.verbs == "first" else len(items)
     items.insert(verb, ("verb",))
-    return Saying(tongue, frame, items)
-
-
-def _plain_clause(tongue, start):
-    without = [number for number, frame in enumerate(tongue.frames) if frame.clause is None]
-    return _said_from(tongue, without[0], plain_pattern(tongue, without[0]), start)
+    return Saying(tongue, frames[0], items)
 
 
 def plain_saying(tongue, frame):

@@ -78,6 +78,12 @@ def _is_verbs(verbs):
     return isinstance(verbs, str) and verbs in VERBS
 
 
+def with_tables(tongue, tables):
+    """The tongue with another table for each stock."""
+    stocks = [Stock(stock.name, table) for stock, table in zip(tongue.stocks, tables)]
+    return Tongue(tongue.roles, stocks, tongue.frames, tongue.rules, tongue.verbs)
+
+
 def _put(rows, at, row):
     return [*rows[:at], row, *rows[at + 1:]]
 

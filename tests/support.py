@@ -4,6 +4,9 @@ from itertools import combinations, permutations, product
 from random import Random
 
 from looseorder.frames import Frame
+from looseorder.heard import depths_of, heard_of
+from looseorder.sayings import Saying
+from looseorder.speaking import pattern_of
 from looseorder.stocks import Stock
 from looseorder.tongues import Tongue
 
@@ -229,3 +232,65 @@ def walk_rings(tongue, frame):
                 found.add(tuple(sorted((a[0], b[0], a[1], a[2], b[2]) for a, b in zip(said, read)
                                        if a[1] is not None)))
     return sorted(found)
+
+
+VERB = ("verb",)
+
+
+def tiny(verbs, agreed=None, rules=()):
+    """A noun role and a clause role; the noun's endings are alike for the two noun roles."""
+    noun = Stock("n", [(0, ("a",), ("b",)), (2, ("a",), ("c",))])
+    frames = [Frame("say", (0,), 1, agreed), Frame("go", (0,)), Frame("see", (0, 2), None, 2)]
+    return Tongue(["who", "what", "whom"], [noun], frames, rules, verbs)
+
+
+def walk_sayings(tongue, most):
+    """All sayings of at most so many pieces; the stem of a noun is told by its stock."""
+    if most < 2:
+        return []
+    found = []
+    for frame, told in enumerate(tongue.frames):
+        if len(told.slots) + 1 > most + (told.clause is not None):
+            continue
+        inner = [None] if told.clause is None else walk_sayings(tongue, most - len(told.nouns) - 1)
+        for pattern in walk_patterns(tongue, frame):
+            for within in inner:
+                found += walk_verbs(tongue, frame, pattern, within)
+    return found
+
+
+def walk_verbs(tongue, frame, pattern, within):
+    items = [("clause", role, within) if stock is None else ("noun", "nm"[stock], stock, role, number)
+             for role, stock, number in pattern]
+    places = {"first": [0], "last": [len(items)], "free": range(len(items) + 1)}[tongue.verbs]
+    return [Saying(tongue, frame, [*items[:place], VERB, *items[place:]]) for place in places]
+
+
+def place_in_order(saying):
+    """Where a reading stands: by its shape, then clause by clause by roles and numbers."""
+    clauses = []
+    inner = saying
+    while inner is not None:
+        pattern = pattern_of(inner)
+        clauses.append(([entry[0] for entry in pattern], [NUMBERS.index(entry[2] or "one") for entry in pattern]))
+        inner = inner.inner
+    return depths_of(saying), clauses
+
+
+def grouped(tongue, most):
+    """The sayings that are heard as each heard row, in the order of readings."""
+    rows = {}
+    for saying in walk_sayings(tongue, most):
+        rows.setdefault(heard_of(saying), []).append(saying)
+    return {heard: sorted(sayings, key=place_in_order) for heard, sayings in rows.items()}
+
+
+def matching(rows, heard):
+    """All sayings of which a heard row, with endings swallowed, is heard."""
+    found = []
+    for full, sayings in rows.items():
+        if len(full) == len(heard) and all(
+                piece == other or (piece[0] == "noun" and piece[:3] == other[:3] and piece[3] is None)
+                for piece, other in zip(heard, full)):
+            found += sayings
+    return sorted(found, key=place_in_order)

@@ -9,7 +9,9 @@ from pathlib import Path
 PACKAGE = Path(__file__).resolve().parent.parent / "looseorder"
 ORDER = ("errors names rulings stocks frames tongues patterns sayings speaking turning tonguetext sayingtext heardtext "
          "shown flat sayable heard readings orderings coincide counts rings closed books orders chains "
-         "endings needed freest trades doubts agreeing articles swallowing rolelots stillsure").split()
+         "endings needed freest trades doubts agreeing articles swallowing rolelots stillsure blocks nested waiting "
+         "longsayings habits safety foreign meeting wearing changes ages helps elders lessons learning wishes mends "
+         "bench").split()
 BUILTINS = set("len range enumerate zip min max sum abs sorted reversed int str bool bytes list tuple dict set "
                "frozenset isinstance ord repr any all divmod iter next super map ValueError property".split())
 METHODS = set("append clear copy count endswith extend find get index insert isalnum isalpha isdigit islower isspace "
@@ -22,7 +24,7 @@ UNUSED = set("register mro elements open input law version_info with_traceback a
              "builtins compile copyright credits delattr dir eval exec exit gc getattr globals hasattr help id "
              "importlib license locals methodcaller os quit setattr type vars sys".split())
 STATEMENTS = (ast.Import, ast.Global, ast.AsyncFunctionDef, ast.AsyncFor, ast.AsyncWith, ast.Await, ast.AnnAssign,
-              ast.Assert, ast.Match, ast.With, ast.Delete, ast.Nonlocal, ast.Set)
+              ast.Assert, ast.Match, ast.Delete, ast.Nonlocal, ast.Set)
 WHOLE = ("any", "all", "min", "max", "sum", "sorted")
 
 
