@@ -294,3 +294,50 @@ def matching(rows, heard):
                 for piece, other in zip(heard, full)):
             found += sayings
     return sorted(found, key=place_in_order)
+
+
+def some_pairs(count, seed, most_roles=3):
+    """Couples of tongues with unlike tables and rules, the same ones in each run; some are equal."""
+    source = Random(seed)
+    found = []
+    for tongue in some_tongues(count, seed, most_roles):
+        parts = [("a",), ("b",), ("a", "b"), ("",)]
+        stocks = []
+        for stock in tongue.stocks:
+            kept = [row for row in stock.table if len(stock.table) == 1 or stock.name == "n" or source.random() < 0.8]
+            rows = [(role, *[source.choice(parts) if source.random() < 0.4 else ending for ending in endings])
+                    for role, *endings in kept or stock.table]
+            stocks.append(Stock(stock.name, rows))
+        row = source.sample(range(len(tongue.roles)), len(tongue.roles))
+        rules = [(a, b) for at, a in enumerate(row) for b in row[at + 1:] if source.random() < 0.3]
+        kind = source.randrange(5)
+        other = Tongue(tongue.roles, tongue.stocks if kind == 0 else stocks, tongue.frames,
+                       tongue.rules if kind in (1, 2) else rules, tongue.verbs)
+        found.append((tongue, tongue if kind == 4 else other))
+    return found
+
+
+def rank_by(habit, row):
+    """Rows with lesser ranks are ahead by the habit."""
+    return [habit.index(role) for role in row]
+
+
+def numbers_in(pattern):
+    return [NUMBERS.index(entry[2] or "one") for entry in pattern]
+
+
+def walk_taken(tongue, habit, frame, things, number):
+    """All readings, in the order in which a hearer with the habit would take them."""
+    found = walk_readings(tongue, frame, things, number)
+    return sorted(found, key=lambda pattern: (rank_by(habit, roles_in(pattern)), numbers_in(pattern)))
+
+
+def steps_from(said, read):
+    """A row (role, goal, stock, number, mate) for each noun, ascending, from two patterns heard alike."""
+    return tuple(sorted((a[0], b[0], a[1], a[2], b[2]) for a, b in zip(said, read) if a[1] is not None))
+
+
+def step_ranks(agreed, steps):
+    """The agreed number and the cells of the steps, for the first of several."""
+    kept = [NUMBERS.index(step[3]) for step in steps if step[0] == agreed]
+    return kept, [(step[2], NUMBERS.index(step[3]), NUMBERS.index(step[4])) for step in steps]
