@@ -3,6 +3,7 @@
 import unittest
 from importlib import import_module
 from inspect import Parameter, isclass, isfunction, isgeneratorfunction, signature
+from pathlib import Path
 
 from support import Sayable
 
@@ -64,13 +65,44 @@ FUNCTIONS = {
                  "first_in_lot(tongue, lot); greatest_lots(tongue)"),
     "stillsure": ("sure_roles(tongue, frame, things, number); is_left_sure(tongue, frame, pattern, places); "
                   "most_swallowed(tongue, frame, pattern)"),
+    "blocks": ("blocks_of(tongue, heard); chain_of(block); span_of(block); roads_of(tongue, heard); "
+               "talk_parts(tongue, pieces)"),
+    "nested": ("things_of(tongue, heard, block); count_nested(tongue, heard); unsure_depths(tongue, heard); "
+               "most_nested(tongue, depth); with_clause(outer, inner); chain_of_saying(saying); "
+               "nest_frames(tongue, frames)"),
+    "waiting": ("waiting_of(tongue, heard); peak_of(tongue, heard); least_waiting(saying); "
+                "waiting_fault(saying, other); memory_needed(tongue, depth); growth_of(tongue)"),
+    "longsayings": ("count_outlines(tongue, depth); all_outlines(tongue, depth); mirrored_tongue(tongue); "
+                    "mirrored_saying(saying); free_pattern(tongue)"),
+    "habits": ("check_habit(tongue, habit); is_row_ahead(habit, row, other); "
+               "taken_pattern(tongue, habit, frame, things, number); "
+               "habit_sorted(tongue, habit, frame, things, number); taken(tongue, habit, heard); "
+               "is_understood(tongue, habit, saying)"),
+    "safety": ("misheard_patterns(misheard); misheard_order(tongue, habit, frame, order); "
+               "safe_orders(tongue, habit, frame); serving_habits(tongue, frame, order); "
+               "first_order(tongue, habit, frame)"),
+    "foreign": ("check_pair(one, other); foreign_readings(one, other, frame, pattern); "
+                "heard_word(one, other, frame, pattern); mistaken(one, other); misheard_fault(one, other, misheard); "
+                "right_reading(one, other); pair_word(one, other); least_changes(one, other, pool)"),
+    "meeting": "safe_with(one, hearer, frame); safe_for_all(one, hearers, frame); joined_tongue(one, other)",
+    "wearing": "wear_tongue(tongue, wear); least_wear(tongue); wear_between(one, other)",
+    "changes": "check_changes(tongue, changes); make_changes(tongue, changes)",
+    "ages": "unclear_ages(ages); first_unclear_age(ages); ages_of(ages, remarks); sure_ages(ages, remarks)",
+    "helps": "helped_tongues(ages, pool, pick); least_helps(ages, pool)",
+    "elders": "common_elder(one, other); common_heir(one, other)",
+    "lessons": ("lesson_of(tongue, frame, pattern); ask_teacher(tongue, frame, row); does_fit(lessons, tongue); "
+                "sure_rules(lessons); barred_rules(lessons)"),
+    "learning": ("meanings_of(lessons, frame, things, number); can_be_clear(lessons); surely_clear(lessons); "
+                 "next_question(lessons, frame)"),
+    "wishes": "check_wishes(tongue, wishes); broken_wish(tongue, wishes); broken_fault(tongue, wishes, broken)",
+    "mends": "find_mends(tongue, pool, wishes); find_spoilers(tongue, pool, wishes)",
 }
 
 # Functions with a parameter that is passed by keyword alone.
 KEYWORD_ONLY = {"with_fewest": ["numbers"]}
 
 GENERATORS = ("flat_readings all_patterns all_shown readings_of sayings_of exchanges_of orders_of "
-              "all_least_books lot_readings").split()
+              "all_least_books lot_readings all_outlines safe_orders serving_habits safe_with").split()
 
 CLASSES = {
     "stocks": ("Stock(name, table)", "borne endings", "ending_for(role, number)"),
@@ -80,7 +112,15 @@ CLASSES = {
                 "with_rule(ahead, behind); without_rule(ahead, behind); with_rules(rules); with_stock(stock, table); "
                 "with_ending(stock, role, number, ending); with_agreed(frame, agreed); with_verbs(verbs)"),
     "sayings": ("Saying(tongue, frame, said)", "depth size inner", "noun_items()"),
+    "meeting": ("Hearer(tongue, habit)", "", ""),
+    "wearing": ("Wear(rows)", "", "led_part(part); led_ending(ending); then(other)"),
+    "ages": ("Ages(tongue, changes)", "", "tongue_at(age); walk_ages(); __len__()"),
+    "lessons": ("Lessons(tongue, rows)", "books known", "with_lesson(lesson); __len__()"),
+    "mends": ("Mends(least, losses)", "needed", ""),
 }
+# Of all classes this one alone is not compared.
+BENCH = ("Bench(tongue)", "put(change); take_back(number); broken_now(wishes); hear_now(frame, things, number); trial(); "
+         "tried(call); __len__(); __iter__()")
 
 RESULTS = {"flat": ("Sure(role)", "Two(one, other)"), "sayable": ("Most(many, things, number)",),
            "coincide": ("Exchange(frame, role, other, stock, number, mate)",), "rings": ("Ring(frame, steps)",),
@@ -89,7 +129,12 @@ RESULTS = {"flat": ("Sure(role)", "Two(one, other)"), "sayable": ("Most(many, th
            "needed": ("Needed(least, rules)",), "freest": ("Freest(most, rules)",),
            "doubts": ("SameNumber(frame, role, stock)",),
            "agreeing": ("Choices(agreed)", "TwoDoubtful(frame, role, other)"),
-           "articles": ("Articles(least, rows)",), "swallowing": ("Swallowed(exchange, hidden)",)}
+           "articles": ("Articles(least, rows)",), "swallowing": ("Swallowed(exchange, hidden)",),
+           "safety": ("Misheard(frame, order, steps)",), "foreign": ("Missed(frame, what, detail)",),
+           "wearing": ("WornOut(wear, exchange)",), "ages": ("Unclear(age, exchange)",),
+           "helps": ("Helps(least, losses)",), "elders": ("Elder(tongue, wear, mate)", "Heir(tongue, wear, mate)"),
+           "learning": ("Doubt(tongue, exchange)", "Question(row, kept, broken)"), "wishes": ("Broken(index, why)",),
+           "mends": ("Mends(least, losses)", "Spoiler(pick, added, broken)")}
 
 
 def told(text):
@@ -143,6 +188,25 @@ class InterfaceTest(unittest.TestCase):
         for name, heads in RESULTS.items():
             for head in heads:
                 self.check_class(name, head, "", "")
+
+    def test_bench(self):
+        module = import_module("looseorder.bench")
+        name, parameters = told(BENCH[0])[0]
+        made = getattr(module, name)
+        self.assertEqual((made.__module__, written(made.__init__, True)), (module.__name__, parameters))
+        for method, more in told(BENCH[1]):
+            self.assertTrue(isfunction(vars(made)[method]), method)
+            self.assertEqual(written(vars(made)[method], True), more, method)
+
+    def test_generator_methods(self):
+        self.assertTrue(isgeneratorfunction(import_module("looseorder.sayings").Saying.noun_items))
+        self.assertTrue(isgeneratorfunction(import_module("looseorder.ages").Ages.walk_ages))
+
+    def test_all_files_are_told(self):
+        """All files of the interface but those of errors and of the bench, which are asked by themselves."""
+        package = Path(import_module("looseorder").__file__).parent
+        names = {path.stem for path in package.glob("*.py")} - {"__init__", "errors", "bench"}
+        self.assertEqual(names, {*FUNCTIONS, *CLASSES, *RESULTS})
 
     def check_class(self, name, head, properties, methods):
         module = import_module(f"looseorder.{name}")
