@@ -2,7 +2,7 @@
 
 from looseorder.errors import BadBlocks, BadHeard, BadTalk, FreeClauses
 from looseorder.heard import check_heard
-from looseorder.names import is_row, is_whole
+from looseorder.names import in_tuples, is_row, is_whole
 from looseorder.sayings import PIECES_MOST
 
 TALK_MOST = 60
@@ -74,8 +74,9 @@ def _left_by_counting(tongue, pieces):
 
 def chain_of(block):
     """The blocks from the block itself to the innermost one."""
-    inner = [chain_of(thing) for thing in block[2] if not is_whole(thing)]
-    return (block, *inner[0]) if len(inner) > 0 else (block,)
+    told = in_tuples(block)
+    inner = [chain_of(thing) for thing in told[2] if not is_whole(thing)]
+    return (told, *inner[0]) if len(inner) > 0 else (told,)
 
 
 def span_of(block):

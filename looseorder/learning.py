@@ -59,10 +59,8 @@ def _entries_by_role(tongue, frame, thing, number, known):
     entries = {}
     for role in [role for role in tongue.stocks[stock].borne if role in told.nouns]:
         mates = (number,) if role == told.agreed else NUMBERS
-        fits = [(role, stock, mate) for mate in mates
-                if ending is None or known.get((stock, role, mate), ending) == ending]
-        if len(fits) > 0:
-            entries[role] = fits
+        entries[role] = [(role, stock, mate) for mate in mates
+                         if ending is None or known.get((stock, role, mate), ending) == ending]
     return entries
 
 

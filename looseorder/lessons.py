@@ -58,7 +58,7 @@ def _check_lesson(tongue, index, lesson):
 
 
 def _lesson_fault(tongue, lesson):
-    if not is_row(lesson, 3, 3) or not isinstance(lesson[0], str) or lesson[0] not in ("said", "wrong"):
+    if not is_row(lesson, 3, 3) or lesson[0] not in ("said", "wrong"):
         return "lesson"
     word, frame, rows = lesson
     if not is_whole(frame, 0, len(tongue.frames) - 1):

@@ -9,7 +9,6 @@ from looseorder.patterns import rows_of_frame
 from looseorder.rings import readable_goals
 from looseorder.rulings import has_ring
 from looseorder.safety import misheard_rows
-from looseorder.tongues import check_frame
 
 HEARERS_MOST = 3
 
@@ -54,7 +53,6 @@ def _check_hearers(one, hearers):
 def safe_for_all(one, hearers, frame):
     """The orders of the frame that are safe with each of the hearers, ascending."""
     _check_hearers(one, hearers)
-    check_frame(one, frame)
     lots = [list(safe_with(one, hearer, frame)) for hearer in hearers]
     return tuple([row for row in lots[0] if all([row in lot for lot in lots])])
 

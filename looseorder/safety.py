@@ -6,7 +6,6 @@ from looseorder.orders import check_order
 from looseorder.patterns import rows_of_frame
 from looseorder.rings import readable_goals
 from looseorder.rulings import does_keep, rows_keeping, within
-from looseorder.tongues import check_frame
 
 
 class Misheard:
@@ -86,7 +85,6 @@ def safe_orders(tongue, habit, frame):
 def first_order(tongue, habit, frame):
     """The order of the frame that is ahead of all others by the habit."""
     told = check_habit(tongue, habit)
-    check_frame(tongue, frame)
     ranked = sorted([(rank_of_row(told, row), row) for row in rows_of_frame(tongue, frame)])
     return ranked[0][1]
 

@@ -52,7 +52,8 @@ class AgesTest(unittest.TestCase):
         self.assertEqual(ages, Ages(two_roles(), told))
         self.assertFalse(ages != Ages(two_roles(), told))
         # Other changes are unlike, also if they lead to the same tongues.
-        others = (Ages(two_roles(), told[:1]), Ages(two_roles([(0, 1)]), told), Ages(two_roles(), [told[0], ("wear", ())]),
+        others = (Ages(two_roles(), told[:1]), Ages(two_roles([(0, 1)]), told),
+                  Ages(two_roles(), [told[0], ("wear", ())]),
                   Ages(two_roles(), [("rule", 0, 1), ("wear", (("a", "b"), ("b", "b")))]), None, told, Sayable())
         for other in others:
             self.assertNotEqual(ages, other)
@@ -166,8 +167,8 @@ class RemarkTest(unittest.TestCase):
             for remarks in ([], (), [right] * 7, [None] * 7, *STRANGE):
                 refuses(self, BadRemark, {"index": 0}, call, ages, remarks)
             wrong = [(), right[:2], (*right, 1), (4, *right[1:]), (-1, *right[1:]), (True, *right[1:]), (2, [], "one"),
-                     (2, [(0, ("a",))] * 2, "one"), (2, [(2, ("a",))], "one"), (2, [(0, ())], "one"), (2, [None], "one"),
-                     (2, [(0, ("a",))], None), (1, [(0, ("a",))] * 3, "one"), "abc", *STRANGE]
+                     (2, [(0, ("a",))] * 2, "one"), (2, [(2, ("a",))], "one"), (2, [(0, ())], "one"),
+                     (2, [None], "one"), (2, [(0, ("a",))], None), (1, [(0, ("a",))] * 3, "one"), "abc", *STRANGE]
             for remark in wrong:
                 refuses(self, BadRemark, {"index": 0}, call, ages, [remark])
                 refuses(self, BadRemark, {"index": 1}, call, ages, [right, remark, None])

@@ -62,7 +62,7 @@ class BenchTest(unittest.TestCase):
                     self.assertIsNone(bench.take_back(number))
                     walked.take_back(number)
                 else:
-                    forms = ("rule", "strike", "ending", "wear", "article") if len(tongue.roles) > 1 else ("ending", "wear")
+                    forms = ("ending", "wear") + (("rule", "strike", "article") if len(tongue.roles) > 1 else ())
                     change, = some_changes(tongue, source, 1, forms)
                     self.assertEqual(bench.put(listed(change)), walked.put(change))
                 self.assertEqual(state(bench), walked.state())
@@ -87,7 +87,8 @@ class BenchTest(unittest.TestCase):
         self.assertEqual(bench.put(("strike", 0, 1)), 4)
         self.assertEqual(bench.standing, ((2, ("rule", 1, 0)), (4, ("strike", 0, 1))))
         self.assertEqual(bench.log, (("put", 1, ("rule", 0, 1)), ("put", 2, ("rule", 1, 0)), ("put", 3, ("wear", ())),
-                                     ("back", 3, ("wear", ())), ("back", 1, ("rule", 0, 1)), ("put", 4, ("strike", 0, 1))))
+                                     ("back", 3, ("wear", ())), ("back", 1, ("rule", 0, 1)),
+                                     ("put", 4, ("strike", 0, 1))))
 
     def test_what_was_kept_out_comes_in(self):
         """A rule that another one kept out is in the tongue as soon as that one is taken back."""
@@ -107,8 +108,8 @@ class BenchTest(unittest.TestCase):
         for change, what in ((None, "change"), ((), "change"), (("rule", 0), "change"), (("rule", 0, 0), "role"),
                              (("ending", 2, 0, "one", ("a",)), "stock"), (("ending", 1, 0, "one", ("a",)), "role"),
                              (("ending", 1, 1, "two", ("a",)), "number"), (("ending", 1, 1, "one", ()), "ending"),
-                             (("wear", None), "wear"), (("article", 0, None), "article"), *[(thing, "change") for thing in
-                                                                                            STRANGE]):
+                             (("wear", None), "wear"), (("article", 0, None), "article"),
+                             *[(thing, "change") for thing in STRANGE]):
             refuses(self, BadChange, {"index": 0, "what": what}, bench.put, change)
             self.assertEqual(state(bench), before)
         self.assertEqual(bench.put(FORMS[1]), 2)

@@ -131,7 +131,8 @@ class BlocksTest(unittest.TestCase):
             self.assertTrue(met >= {(True, False), (False, False), (False, True)})
 
     def test_what_sayings_are(self):
-        for tongue in [tiny("last", 0), tiny("first"), *some_tongues(12, 71, 3, "last"), *some_tongues(8, 72, 3, "first")]:
+        for tongue in [tiny("last", 0), tiny("first"), *some_tongues(12, 71, 3, "last"),
+                       *some_tongues(8, 72, 3, "first")]:
             for heard, sayings in grouped(tongue, 5).items():
                 block = blocks_of(tongue, list(heard))
                 chain = chain_of(block)
@@ -233,6 +234,12 @@ class ChainTest(unittest.TestCase):
         self.assertEqual(span_of((1, 3, (4, (2, 5, (6, 7))))), (3, 8))
         self.assertEqual(chain_of((1, 5, (3, 4))), ((1, 5, (3, 4)),))
 
+    def test_blocks_in_lists(self):
+        block = [0, 4, [0, [1, 3, [1, 2]]]]
+        self.assertEqual(chain_of(block), ((0, 4, (0, (1, 3, (1, 2)))), (1, 3, (1, 2))))
+        self.assertEqual(span_of(block), (0, 5))
+        self.assertEqual(block, [0, 4, [0, [1, 3, [1, 2]]]])
+
     def test_roads_raise_as_blocks_do(self):
         tongue = kinds("last")
         refuses(self, BadBlocks, {"place": 3}, roads_of, tongue, row_of(tongue, "n n 1"))
@@ -317,8 +324,8 @@ class TalkTest(unittest.TestCase):
         for pieces in ([noun] * 61, *STRANGE):
             refuses(self, BadTalk, {"index": 0}, talk_parts, free, pieces)
             refuses(self, BadTalk, {"index": 0}, talk_parts, tiny("last"), pieces)
-        wrong = [("noun", "x", 9, ("a",)), ("noun", "", 0, ("a",)), ("noun", "x", 0, ()), ("noun", "x", 0), ("verb", 9, None),
-                 ("verb", 1, "one"), ("verb", 2, None), ("adverb", 0, None), *STRANGE]
+        wrong = [("noun", "x", 9, ("a",)), ("noun", "", 0, ("a",)), ("noun", "x", 0, ()), ("noun", "x", 0),
+                 ("verb", 9, None), ("verb", 1, "one"), ("verb", 2, None), ("adverb", 0, None), *STRANGE]
         for piece in wrong:
             for at in (0, 3, 20):
                 refuses(self, BadTalk, {"index": at}, talk_parts, free, [noun] * at + [piece, None, noun])

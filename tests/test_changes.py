@@ -99,7 +99,8 @@ class CheckTest(unittest.TestCase):
     def test_change(self):
         for change in ((), ("rule",), ("rule", 0), ("rule", 0, 1, 2), ("strike", 9), ("ending", 0, 0, "one"),
                        ("ending", 0, 0, "one", ("a",), 1), ("wear",), ("wear", (), ()), ("article", 9), ("Rule", 0, 1),
-                       ("", 0, 1), ("rules", 0, 1), (["rule"], 0, 1), ("rule" "s",), "rule", "abc", (0, 1, 2), *STRANGE):
+                       ("", 0, 1), ("rules", 0, 1), (["rule"], 0, 1), ("rule" "s",), "rule", "abc", (0, 1, 2),
+                       *STRANGE):
             self.fault("change", change)
         for thing in STRANGE:
             self.fault("change", (thing, 0, 1))
@@ -206,7 +207,8 @@ class MakeTest(unittest.TestCase):
 
     def test_endings_wears_and_articles(self):
         tongue = two_roles()
-        self.assertEqual(make_changes(tongue, [("ending", 0, 1, "many", ["q", ""])]), tongue.with_ending(0, 1, "many", ("q", "")))
+        self.assertEqual(make_changes(tongue, [("ending", 0, 1, "many", ["q", ""])]),
+                         tongue.with_ending(0, 1, "many", ("q", "")))
         rows = [("a", "s"), ("s", "t")]
         self.assertEqual(make_changes(tongue, [("wear", rows)]), wear_tongue(tongue, Wear(rows)))
         self.assertEqual(make_changes(tongue, [("wear", rows)] * 2), wear_tongue(tongue, Wear(rows).then(Wear(rows))))

@@ -116,7 +116,8 @@ class ElderTest(unittest.TestCase):
     def test_many_parts(self):
         """More than 26 couples: the parts go on with two letters."""
         parts = [a + b for a in "abcde" for b in "vwxyz"] + list("abcdefghijklmnopqrstuv")
-        table = [(role, tuple(parts[8 * role:8 * role + 4]), tuple(parts[8 * role + 4:8 * role + 8])) for role in range(5)]
+        table = [(role, tuple(parts[8 * role:8 * role + 4]), tuple(parts[8 * role + 4:8 * role + 8]))
+                 for role in range(5)]
         one = one_frame(table)
         other = with_endings(one, lambda ending: ("a",) * 4)
         found = common_elder(one, other)

@@ -20,7 +20,9 @@ from support import (NUMBERS, STRANGE, all_alike, are_tuples, great, nesting, on
 def pairs():
     found = some_pairs(60, 131) + [(two_roles(), two_roles([(0, 1)])), (two_roles([(0, 1)]), two_roles())]
     three = [one_frame(words(text, 3), rules, 1) for text, rules in (
-        ("ab cd ef", ()), ("ab cd fe", [(0, 1)]), ("cd ab ef", ()), ("ab bc ca", [(0, 2)]), ("ef ab cd", [(2, 0)]))]
+        ("ab cd ef", ()), ("ab cd fe", [(0, 1)]), ("cd ab ef", ()), ("ab bc ca", [(0, 2)]), ("ef ab cd", [(2, 0)]),
+        # With the first one, three nouns are led round in one direction alone.
+        ("ef ab cd", [(2, 1)]))]
     return found + [(one, other) for one in three for other in three]
 
 
@@ -78,7 +80,8 @@ class PairTest(unittest.TestCase):
         yield one, Tongue([*one.roles, "more"], one.stocks, one.frames)
         yield one, Tongue(one.roles, one.stocks[:1], one.frames)
         yield one, Tongue(one.roles, [Stock("other", one.stocks[0].table), one.stocks[1]], one.frames)
-        yield one, Tongue(one.roles, [Stock("thing", one.stocks[0].table), Stock("noun", one.stocks[1].table)], one.frames)
+        yield one, Tongue(one.roles, [Stock("thing", one.stocks[0].table), Stock("noun", one.stocks[1].table)],
+                          one.frames)
         yield one, nesting(agreed=1)
         yield one, Tongue(one.roles, one.stocks, one.frames[1:])
         yield one, Tongue(one.roles, one.stocks, [*one.frames[:3], Frame("feel", (1,), 2)])
@@ -295,6 +298,11 @@ class FaultTest(unittest.TestCase):
         self.fault("read", other=self.other.with_rules([(0, 1)]))
         self.fault(None, other=self.other.with_rules([(1, 0)]))
         self.fault("read", order=(1, 0, 2), other=self.other.with_rules([(1, 0)]))
+        # Three nouns led round: what is read is the order led to its goals, not back from them.
+        one, other = one_frame(words("ab cd ef", 3)), one_frame(words("ef ab cd", 3), [(1, 0)])
+        steps = [(role, goal, 0, "one", "one") for role, goal in ((0, 1), (1, 2), (2, 0))]
+        self.fault(None, 0, (1, 0, 2), steps, one, other)
+        self.fault("read", 0, (2, 1, 0), steps, one, other)
 
     def test_the_clause_is_its_own_goal(self):
         one, other = tiny("last"), tiny("last", None, [(1, 0)])
@@ -338,7 +346,8 @@ class RightReadingTest(unittest.TestCase):
         self.assertIsNone(right_reading(nesting(agreed=1, rules=[(0, 2)]), nesting(agreed=1, rules=[(0, 2)])))
         self.assertEqual(right_reading(one, one.with_ending(0, 0, "one", ("q",))), Missed(0, "ending", (0, 0, "one")))
         self.assertEqual(right_reading(one, one.with_ending(1, 3, "one", ("q",))), None)
-        self.assertEqual(right_reading(one, one.with_stock(1, [(1, ("a",), ("b",))])), Missed(1, "ending", (3, 1, "one")))
+        self.assertEqual(right_reading(one, one.with_stock(1, [(1, ("a",), ("b",))])),
+                         Missed(1, "ending", (3, 1, "one")))
         self.assertIsNone(right_reading(one.with_stock(1, [(1, ("a",), ("b",))]), one))
         # A rule of a frame is told ahead of its endings, and a frame ahead of the next one.
         other = nesting(agreed=1, rules=[(1, 3)]).with_ending(0, 3, "many", ("q",))

@@ -69,8 +69,8 @@ class TakenPatternTest(unittest.TestCase):
         for habit in permutations(range(3)):
             found = habit_sorted(tongue, habit, 0, things, None)
             self.assertEqual(len(found), 48)
-            self.assertEqual([roles_in(pattern) for pattern in found[::8]], sorted(permutations(range(3)), key=lambda row:
-                             rank_by(habit, row)))
+            self.assertEqual([roles_in(pattern) for pattern in found[::8]],
+                             sorted(permutations(range(3)), key=lambda row: rank_by(habit, row)))
             self.assertEqual([numbers_in(pattern) for pattern in found[:3]], [[0, 0, 0], [0, 0, 1], [0, 1, 0]])
             self.assertEqual(roles_in(taken_pattern(tongue, habit, 0, things, None)), habit)
 
@@ -94,7 +94,8 @@ class TakenPatternTest(unittest.TestCase):
             refuses(self, BadThings, {"index": 1, "what": "thing"}, call, tongue, habit, 0, [things[0], 3, None], "one")
             refuses(self, BadThings, {"index": 1, "what": "clause"}, call, tongue, habit, 0, [None, None, 3], "one")
             refuses(self, BadThings, {"index": 0, "what": "number"}, call, tongue, habit, 0, things, None)
-        refuses(self, BadThings, {"index": 0, "what": "number"}, taken_pattern, tongue, habit, 0, [(0, ("zz",))] * 2 + [None], None)
+        refuses(self, BadThings, {"index": 0, "what": "number"}, taken_pattern, tongue, habit, 0,
+                [(0, ("zz",))] * 2 + [None], None)
 
     def test_nothing_changes(self):
         tongue, habit, things = two_roles(), [1, 0], [[0, ["a"]], [0, None]]

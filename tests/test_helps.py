@@ -101,7 +101,8 @@ class HelpedTest(unittest.TestCase):
             self.assertEqual(len(helped_tongues(ages, pool, pick)), 2)
 
     def test_nothing_changes(self):
-        ages, pool, pick = Ages(two_roles(), [("wear", ())]), [[0, ["rule", 0, 1]], [1, ["article", 0, [[0, "one", "x"]]]]], [0]
+        pool, pick = [[0, ["rule", 0, 1]], [1, ["article", 0, [[0, "one", "x"]]]]], [0]
+        ages = Ages(two_roles(), [("wear", ())])
         helped_tongues(ages, pool, pick)
         least_helps(ages, pool)
         self.assertEqual((pool, pick), ([[0, ["rule", 0, 1]], [1, ["article", 0, [[0, "one", "x"]]]]], [0]))
@@ -166,7 +167,8 @@ class LeastTest(unittest.TestCase):
         source = Random(183)
         met = set()
         for ages in some_ages(96, 184, 2, ("rule", "strike", "wear")):
-            pool = tuple((source.randrange(len(ages)), change) for change in some_changes(ages.tongue, source, 2, ("article",)))
+            pool = tuple((source.randrange(len(ages)), change)
+                         for change in some_changes(ages.tongue, source, 2, ("article",)))
             if max(len(ending) for tongue in walk_helped(ages, pool, (0, 1)) for stock in tongue.stocks
                    for row in stock.table for ending in row[1:]) >= 4:
                 continue

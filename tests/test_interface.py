@@ -119,8 +119,8 @@ CLASSES = {
     "mends": ("Mends(least, losses)", "needed", ""),
 }
 # Of all classes this one alone is not compared.
-BENCH = ("Bench(tongue)", "put(change); take_back(number); broken_now(wishes); hear_now(frame, things, number); trial(); "
-         "tried(call); __len__(); __iter__()")
+BENCH = ("Bench(tongue)", "put(change); take_back(number); broken_now(wishes); hear_now(frame, things, number); "
+         "trial(); tried(call); __len__(); __iter__()")
 
 RESULTS = {"flat": ("Sure(role)", "Two(one, other)"), "sayable": ("Most(many, things, number)",),
            "coincide": ("Exchange(frame, role, other, stock, number, mate)",), "rings": ("Ring(frame, steps)",),

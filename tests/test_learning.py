@@ -11,8 +11,9 @@ from looseorder.learning import (Doubt, Question, can_be_clear, meanings_of, nex
 from looseorder.lessons import Lessons, ask_teacher, does_fit, lesson_of
 from looseorder.stocks import Stock
 from looseorder.tongues import Tongue
-from support import (NUMBERS, STRANGE, all_alike, are_tuples, heard_things, keeps, nesting, numbers_in, one_frame, refuses,
-                     roles_in, tiny, two_roles, walk_is_clear, walk_patterns, walk_readings, walk_shown, words)
+from support import (NUMBERS, STRANGE, all_alike, are_tuples, heard_things, keeps, nesting, numbers_in, one_frame,
+                     refuses, roles_in, tiny, two_roles, walk_is_clear, walk_patterns, walk_readings, walk_shown,
+                     words)
 from test_lessons import BOOKS, keeps_lesson, some_lessons, taught
 
 
@@ -28,7 +29,8 @@ def fitting_tongues(lessons, letters):
     """All tongues that fit, whose untold endings are of one of the letters or one of the told ones."""
     learner = lessons.tongue
     known = {row[:3]: row[3] for row in lessons.known}
-    cells = [(stock, role, number) for stock, told in enumerate(learner.stocks) for role in told.borne for number in NUMBERS]
+    cells = [(stock, role, number) for stock, told in enumerate(learner.stocks) for role in told.borne
+             for number in NUMBERS]
     some = sorted({*known.values(), *[(letter,) for letter in letters]})
     for endings in product(*[[known[cell]] if cell in known else some for cell in cells]):
         table = dict(zip(cells, endings))
@@ -44,7 +46,8 @@ def small():
     tongues = [one_frame(words(text, 2), rules, agreed) for text in ("ab ac", "aa bb", "ab cd", "ab ba") for rules in
                ((), [(0, 1)]) for agreed in (None, 1)]
     noun = Stock("n", [(0, ("a",), ("b",))])
-    tongues.append(Tongue(["p", "q"], [noun, Stock("m", [(1, ("a",), ("b",))])], [Frame("see", (0, 1)), Frame("go", (0,))]))
+    tongues.append(Tongue(["p", "q"], [noun, Stock("m", [(1, ("a",), ("b",))])],
+                          [Frame("see", (0, 1)), Frame("go", (0,))]))
     tongues.append(Tongue(["p", "q"], [noun], [Frame("say", (0,), 1), Frame("go", (0,))], [(1, 0)]))
     for tongue in tongues:
         for many in (0, 1, 2, 4):
@@ -104,7 +107,8 @@ class MeaningTest(unittest.TestCase):
         lessons = Lessons(two_roles(), [("said", 1, [(0, 0, number, ("a",))]) for number in NUMBERS])
         self.assertEqual(meanings_of(lessons, 1, [(0, ("b",))], None), ())
         self.assertEqual(meanings_of(lessons, 1, [(0, None)], None), (((0, 0, "one"),), ((0, 0, "many"),)))
-        self.assertEqual(meanings_of(Lessons(two_roles(), ()), 1, [(0, ("b",))], None), (((0, 0, "one"),), ((0, 0, "many"),)))
+        self.assertEqual(meanings_of(Lessons(two_roles(), ()), 1, [(0, ("b",))], None),
+                         (((0, 0, "one"),), ((0, 0, "many"),)))
 
     def test_errors_in_their_order(self):
         lessons = Lessons(nesting(agreed=0), ())
@@ -113,7 +117,8 @@ class MeaningTest(unittest.TestCase):
         refuses(self, BadThings, {"index": 0, "what": "many"}, meanings_of, lessons, 0, [], "one")
         refuses(self, BadThings, {"index": 1, "what": "thing"}, meanings_of, lessons, 0, [None, (9, None), None], "one")
         refuses(self, BadThings, {"index": 1, "what": "clause"}, meanings_of, lessons, 0, [None, None, None], "one")
-        refuses(self, BadThings, {"index": 0, "what": "number"}, meanings_of, lessons, 0, [None, (0, None), (0, None)], None)
+        refuses(self, BadThings, {"index": 0, "what": "number"}, meanings_of, lessons, 0,
+                [None, (0, None), (0, None)], None)
 
     def test_nothing_changes(self):
         lessons, things = Lessons(two_roles(), ()), [[0, ["a"]], [0, None]]
@@ -185,7 +190,8 @@ class ClearTest(unittest.TestCase):
     def test_told_endings_in_many_stocks(self):
         """All 26 letters told by other stocks leave each stock endings enough."""
         letters = "abcdefghijklmnopqrstuvwxyz"
-        tables = [[(role, (letters[(8 * at + 2 * role) % 26],), (letters[(8 * at + 2 * role + 1) % 26],)) for role in range(4)]
+        tables = [[(role, (letters[(8 * at + 2 * role) % 26],), (letters[(8 * at + 2 * role + 1) % 26],))
+                   for role in range(4)]
                   for at in range(4)]
         tongue = Tongue(list("pqrs"), [Stock(name, table) for name, table in zip("nmop", tables)],
                         [Frame("give", (0, 1, 2, 3)), Frame("go", (3,))])

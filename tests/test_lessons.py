@@ -53,7 +53,8 @@ def some_lessons(source, tongue, many):
 def taught(count, seed, most=6):
     """Lessons with the tongue of which they tell; the learner's tongue has no rules and other endings."""
     source = Random(seed)
-    near = [two_roles([(0, 1)]), all_alike(3, [(0, 1)]), nesting(), one_frame(words("ab cd ef", 3), [(1, 0), (0, 2)], 1)]
+    near = [two_roles([(0, 1)]), all_alike(3, [(0, 1)]), nesting(),
+            one_frame(words("ab cd ef", 3), [(1, 0), (0, 2)], 1)]
     for tongue in some_tongues(count, seed, 4) + near * 3:
         rows = some_lessons(source, tongue, source.randint(0, most))
         stocks = [Stock(stock.name, [(role, ("q",), ("q",)) for role in stock.borne]) for stock in tongue.stocks]
@@ -83,10 +84,12 @@ class LessonTest(unittest.TestCase):
                         wrong += 1
                         continue
                     first = [None if role == tongue.frames[frame].clause else
-                             min(stock for stock in range(len(tongue.stocks)) if (role, "one") in table_of(tongue, stock))
+                             min(stock for stock in range(len(tongue.stocks))
+                                 if (role, "one") in table_of(tongue, stock))
                              for role in row]
                     rows = [(role, None, None, None) if stock is None else
-                            (role, stock, "one", table_of(tongue, stock)[role, "one"]) for role, stock in zip(row, first)]
+                            (role, stock, "one", table_of(tongue, stock)[role, "one"])
+                            for role, stock in zip(row, first)]
                     self.assertEqual(found, ("said", frame, tuple(rows)))
                     self.assertTrue(are_tuples(found))
         self.assertGreater(wrong, 20)
@@ -119,7 +122,8 @@ class LessonsTest(unittest.TestCase):
             self.assertIn(walk_closure(tongue.rules), books)
             known = {(row[1], row[0], NUMBERS.index(row[2])): row[3] for lesson in lessons.rows if lesson[0] == "said"
                      for row in lesson[2] if row[1] is not None}
-            self.assertEqual(lessons.known, tuple((cell[0], cell[1], NUMBERS[cell[2]], known[cell]) for cell in sorted(known)))
+            self.assertEqual(lessons.known, tuple((cell[0], cell[1], NUMBERS[cell[2]], known[cell])
+                                                  for cell in sorted(known)))
             self.assertTrue(are_tuples((lessons.books, lessons.known, lessons.rows)))
             self.assertEqual(len(lessons), len(lessons.rows))
             sizes.add(len(books))
@@ -148,8 +152,8 @@ class LessonsTest(unittest.TestCase):
         self.assertEqual(lessons.rows, told)
         self.assertEqual(lessons, Lessons(two_roles(), told))
         self.assertFalse(lessons != Lessons(two_roles(), told))
-        for other in (Lessons(two_roles(), told[:1]), Lessons(two_roles(), told[::-1]), Lessons(two_roles([(0, 1)]), told),
-                      None, told, Sayable()):
+        for other in (Lessons(two_roles(), told[:1]), Lessons(two_roles(), told[::-1]),
+                      Lessons(two_roles([(0, 1)]), told), None, told, Sayable()):
             self.assertNotEqual(lessons, other)
             self.assertFalse(lessons == other)
 
@@ -185,7 +189,8 @@ class LessonsTest(unittest.TestCase):
 class WrongTest(unittest.TestCase):
     """Frame 0 of nesting: noun roles 0 and 1, clause role 2; stock 0 bears 0, 1 and 3, stock 1 bears 1 and 3."""
 
-    RIGHT = (("wrong", 0, (0, 1, 2)), ("said", 0, ((2, None, None, None), (1, 1, "many", ("a", "s")), (0, 0, "one", ("x",)))))
+    RIGHT = (("wrong", 0, (0, 1, 2)), ("said", 0, ((2, None, None, None), (1, 1, "many", ("a", "s")),
+                                                   (0, 0, "one", ("x",)))))
 
     def fault(self, what, lesson, *more):
         for at in (0, 1, 2):
@@ -323,7 +328,8 @@ class FitTest(unittest.TestCase):
     def test_what_the_learner_knows(self):
         tongue = nesting(agreed=0)
         lessons = Lessons(tongue, ())
-        self.assertTrue(does_fit(lessons, Tongue(["x", "y", "z", "w"], tongue.stocks, tongue.frames, [(3, 2), (2, 0)], "free")))
+        renamed = Tongue(["x", "y", "z", "w"], tongue.stocks, tongue.frames, [(3, 2), (2, 0)], "free")
+        self.assertTrue(does_fit(lessons, renamed))
         names = [Stock(name, stock.table) for name, stock in zip(("p", "q"), tongue.stocks)]
         self.assertTrue(does_fit(lessons, Tongue(tongue.roles, names, tongue.frames)))
         self.assertFalse(does_fit(lessons, Tongue([*tongue.roles, "more"], tongue.stocks, tongue.frames)))

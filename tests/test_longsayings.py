@@ -15,8 +15,8 @@ from looseorder.sayings import Saying
 from looseorder.stocks import Stock
 from looseorder.tongues import Tongue
 from looseorder.waiting import waiting_of
-from support import (NUMBERS, STRANGE, are_tuples, four_stocks, great, grouped, nesting, refuses, some_tongues, table_of,
-                     tiny, two_roles, walk_closure, walk_sayings)
+from support import (NUMBERS, STRANGE, are_tuples, four_stocks, great, grouped, nesting, refuses, some_tongues,
+                     table_of, tiny, two_roles, walk_closure, walk_sayings)
 
 
 def outline(heard):
@@ -91,15 +91,16 @@ class OutlineTest(unittest.TestCase):
             (n, n, n, 3, n, n, 1), (n, n, n, n, 3, n, 1), (n, n, n, n, n, 3, 1),
             (n, 0, n, 2), (n, n, 0, 2), (n, n, 3, n, 2), (n, n, n, 3, 2)])
         tongue = wide("first", [(0, 2)])
-        self.assertEqual(list(all_outlines(tongue, 2))[:3], [(1, n, 0, n, n, n), (1, n, n, 0, n, n), (1, n, n, n, 0, n)])
+        self.assertEqual(list(all_outlines(tongue, 2))[:3], [(1, n, 0, n, n, n), (1, n, n, 0, n, n),
+                                                             (1, n, n, n, 0, n)])
 
     def test_free(self):
         tongue = four_stocks().with_verbs("last")
         frames = [frame for frame in tongue.frames if frame.clause is None]
         free = Tongue(tongue.roles, tongue.stocks, frames, (), "free")
         n = None
-        self.assertEqual(list(all_outlines(free, 1)), [(0, n, n, n), (n, 0, n, n), (n, n, 0, n), (n, n, n, 0), (1, n, n),
-                                                       (n, 1, n), (n, n, 1), (2, n), (n, 2)])
+        self.assertEqual(list(all_outlines(free, 1)), [
+            (0, n, n, n), (n, 0, n, n), (n, n, 0, n), (n, n, n, 0), (1, n, n), (n, 1, n), (n, n, 1), (2, n), (n, 2)])
         self.assertEqual(count_outlines(free, 1), 9)
         for depth in (2, 3):
             self.assertEqual(list(all_outlines(free, depth)), [])
@@ -215,7 +216,8 @@ class FreePatternTest(unittest.TestCase):
         unlike = [at for at, (a, b) in enumerate(zip(depths_of(one), depths_of(other))) if a != b]
         self.assertEqual(len(unlike), 2)
         verb = [at for at, piece in enumerate(heard) if piece[0] == "verb" and depths_of(one)[at] == 1]
-        self.assertEqual(verb, [at for at, piece in enumerate(heard) if piece[0] == "verb" and depths_of(other)[at] == 1])
+        self.assertEqual(verb, [at for at, piece in enumerate(heard) if piece[0] == "verb"
+                                and depths_of(other)[at] == 1])
         self.assertLess(unlike[0], verb[0])
         self.assertLess(verb[0], unlike[1])
         for saying in found:
@@ -245,7 +247,8 @@ class FreePatternTest(unittest.TestCase):
         for rules in ([(0, 2)], [(2, 0)], [(1, 2)], [(0, 2), (0, 3)]):
             self.assertTrue(self.check(loose(rules)))
         # No ending is shared by the two roles, or just by two stocks.
-        self.assertFalse(self.check(loose((), [Stock("n", [(0, ("a",), ("b",)), (2, ("c",), ("d",)), (3, ("e",), ("f",))])])))
+        unlike = Stock("n", [(0, ("a",), ("b",)), (2, ("c",), ("d",)), (3, ("e",), ("f",))])
+        self.assertFalse(self.check(loose((), [unlike])))
         self.assertFalse(self.check(loose((), [Stock("n", [(0, ("a",), ("b",)), (2, ("c",), ("d",))]),
                                                Stock("m", [(2, ("a",), ("b",)), (3, ("a",), ("b",))])])))
         # One role for both: any stock that bears it.

@@ -20,6 +20,8 @@ def pairs():
     found = some_pairs(40, 141) + [(two_roles(), two_roles([(0, 1)])), (all_alike(3), all_alike(3, [(0, 1)]))]
     three = [one_frame(words(text, 3), rules, 1) for text, rules in (
         ("ab cd ef", ()), ("ab cd fe", [(0, 1)]), ("cd ab ef", ()), ("ab bc ca", [(0, 2)]), ("ab bc ca", ()))]
+    # Three nouns are led round in one direction alone, and all are read rightly, too.
+    found.append((one_frame(words("aa bb cc", 3)), one_frame(words("ac ba cb", 3))))
     return found + [(one, other) for one in three for other in three]
 
 

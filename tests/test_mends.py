@@ -7,8 +7,8 @@ from random import Random
 from looseorder.errors import BadChange, BadWish
 from looseorder.mends import Mends, Spoiler, find_mends, find_spoilers
 from looseorder.wishes import Broken, broken_fault
-from support import (STRANGE, all_alike, are_tuples, nesting, one_frame, refuses, some_tongues, two_roles, walk_closure,
-                     words)
+from support import (STRANGE, all_alike, are_tuples, nesting, one_frame, refuses, some_tongues, two_roles,
+                     walk_closure, words)
 from test_changes import listed, some_changes, walk_changes
 from test_wishes import granted, some_wishes
 
@@ -72,14 +72,15 @@ class MendsTest(unittest.TestCase):
         met = set()
         for tongue, pool, wishes in some_benches(160, 231):
             found, spoilers = self.check(tongue, pool, wishes)
-            met |= {("least", min(2, len(found.least))), ("needed", min(1, len(found.needed))), ("spoil", len(spoilers) > 0),
-                    ("size", len(found.least[0]) if found.least else None)}
+            met |= {("least", min(2, len(found.least))), ("needed", min(1, len(found.needed))),
+                    ("spoil", len(spoilers) > 0), ("size", len(found.least[0]) if found.least else None)}
         self.assertTrue(met >= {("least", 0), ("least", 1), ("least", 2), ("needed", 0), ("needed", 1), ("spoil", True),
                                 ("spoil", False), ("size", None), ("size", 0), ("size", 1)})
 
     def test_several_least_picks(self):
         tongue = one_frame(words("aa aa", 2))
-        pool = [("ending", 0, 0, "one", ("b",)), ("rule", 0, 1), ("rule", 1, 0), ("ending", 0, 0, "many", ("c",)), ("wear", ())]
+        pool = [("ending", 0, 0, "one", ("b",)), ("rule", 0, 1), ("rule", 1, 0), ("ending", 0, 0, "many", ("c",)),
+                ("wear", ())]
         found, _ = self.check(tongue, pool, [("clear",)])
         self.assertEqual((found.least, found.needed), (((1,), (2,), (0, 3)), ()))
         found, _ = self.check(tongue, pool, [("clear",), ("orders", 0, 2)])
@@ -137,7 +138,8 @@ class MendsTest(unittest.TestCase):
         source = Random(232)
         met = set()
         for tongue, pool, _ in some_benches(80, 233, ("rule",)):
-            if pool[0][0] != "rule" or any(a == b for a, b in walk_closure([*tongue.rules, *[row[1:] for row in pool]])):
+            told = [*tongue.rules, *[row[1:] for row in pool]]
+            if pool[0][0] != "rule" or any(a == b for a, b in walk_closure(told)):
                 continue
             wishes = [source.choice([("clear",), ("wholly",), ("swallowed", source.randint(0, 5))]) for _ in "abc"]
             self.assertEqual(find_spoilers(tongue, pool, wishes), ())
@@ -153,7 +155,8 @@ class MendsTest(unittest.TestCase):
                 refuses(self, BadChange, {"index": 0, "what": "pool"}, call, tongue, pool, [("clear",)])
             refuses(self, BadChange, {"index": 0, "what": "change"}, call, tongue, [None], None)
             refuses(self, BadChange, {"index": 1, "what": "role"}, call, tongue, [right, ("rule", 0, 4)], None)
-            refuses(self, BadChange, {"index": 4, "what": "article"}, call, tongue, [right] * 4 + [("article", 0, None)], None)
+            refuses(self, BadChange, {"index": 4, "what": "article"}, call, tongue,
+                    [right] * 4 + [("article", 0, None)], None)
             for wishes in ([], [("clear",)] * 7, *STRANGE):
                 refuses(self, BadWish, {"index": 0}, call, tongue, [right], wishes)
             refuses(self, BadWish, {"index": 1}, call, tongue, [right] * 5, [("clear",), ("orders", 9, 9)])

@@ -16,13 +16,14 @@ from looseorder.sayings import Saying
 from looseorder.speaking import pattern_of, plain_saying
 from looseorder.stocks import Stock
 from looseorder.tongues import Tongue
-from support import (STRANGE, VERB, are_tuples, great, grouped, matching, nesting, refuses, roles_in, some_tongues, tiny,
-                     two_roles, walk_is_clear, walk_sayings, walk_shown)
+from support import (STRANGE, VERB, are_tuples, great, grouped, matching, nesting, refuses, roles_in, some_tongues,
+                     tiny, two_roles, walk_is_clear, walk_sayings, walk_shown)
 
 
 def tongues():
     """Tongues whose rows have one shape."""
-    found = [tiny(verbs, *more) for verbs in ("first", "last") for more in ((), (0, [(1, 0)]), (None, [(0, 1), (1, 2)]))]
+    found = [tiny(verbs, *more) for verbs in ("first", "last")
+             for more in ((), (0, [(1, 0)]), (None, [(0, 1), (1, 2)]))]
     found += some_tongues(12, 81, 3, "last") + some_tongues(12, 82, 3, "first") + some_tongues(16, 83, 3, "free")
     found += [two_roles((), "free"), two_roles([(0, 1)])]
     return [tongue for tongue in found if not is_free_with_clauses(tongue)]
@@ -172,7 +173,8 @@ class MostTest(unittest.TestCase):
     def test_the_heard_number_counts(self):
         noun = Stock("n", [(0, ("a",), ("b",)), (1, ("a",), ("c",))])
         for agreed, many in ((None, 2), (0, 2)):
-            tongue = Tongue(["who", "whom", "what"], [noun], [Frame("see", (0, 1), None, agreed), Frame("say", (0,), 2)])
+            frames = [Frame("see", (0, 1), None, agreed), Frame("say", (0,), 2)]
+            tongue = Tongue(["who", "whom", "what"], [noun], frames)
             self.assertEqual(most_nested(tongue, 3), many)
         noun = Stock("n", [(0, ("a",), ("b",)), (1, ("b",), ("a",))])
         tongue = Tongue(["who", "whom"], [noun], [Frame("see", (0, 1), None, 0)])
@@ -261,8 +263,8 @@ class ClauseTest(unittest.TestCase):
 
 class NestTest(unittest.TestCase):
     def test_what_is_nested(self):
-        for tongue in [tiny("last"), tiny("first", 0), tiny("free"), nesting("free", 1, [(2, 0)]), nesting("last", None, [(1, 0)]),
-                       *some_tongues(20, 86)]:
+        for tongue in [tiny("last"), tiny("first", 0), tiny("free"), nesting("free", 1, [(2, 0)]),
+                       nesting("last", None, [(1, 0)]), *some_tongues(20, 86)]:
             outer = [frame for frame, told in enumerate(tongue.frames) if told.clause is not None]
             inner = [frame for frame, told in enumerate(tongue.frames) if told.clause is None]
             for many in (0, 1, 2, 3):

@@ -4,8 +4,7 @@ import unittest
 
 from looseorder.errors import BadPattern, NoFrame
 from looseorder.patterns import check_pattern, plain_pattern, row_of_roles
-from support import (STRANGE, are_tuples, great, nesting, refuses, some_tongues, two_roles, walk_orders,
-                     walk_patterns)
+from support import (STRANGE, are_tuples, great, nesting, refuses, some_tongues, two_roles, walk_orders, walk_patterns)
 
 
 def bad(test, index, what, tongue, frame, pattern):

@@ -9,8 +9,8 @@ from looseorder.errors import BadLot, BadPattern, BadThings, NoFrame
 from looseorder.rolelots import first_in_lot, greatest_lots, lot_readings, swallow_lot
 from looseorder.swallowing import Swallowed, swallowed_fault
 from support import (NUMBERS, STRANGE, all_alike, are_tuples, four_stocks, great, heard_things, nesting, one_frame,
-                     refuses, roles_in, some_tongues, table_of, two_roles, walk_closure, walk_patterns,
-                     walk_readings, walk_shown, words)
+                     refuses, roles_in, some_tongues, table_of, two_roles, walk_closure, walk_patterns, walk_readings,
+                     walk_shown, words)
 
 
 def tongues():

@@ -30,7 +30,8 @@ RULES = ((), [(0, 3)], [(0, 3), (1, 3)], [(3, 0)], [(0, 3), (3, 1)], [(0, 1), (1
 
 def tongues():
     found = [wide(verbs, rules) for verbs in ("first", "last") for rules in RULES]
-    found += [tiny("last", None, [(0, 1)]), tiny("first", None, [(0, 1)]), tiny("last"), two_roles(), two_roles((), "first")]
+    found += [tiny("last", None, [(0, 1)]), tiny("first", None, [(0, 1)]), tiny("last"), two_roles(),
+              two_roles((), "first")]
     return found + some_tongues(10, 91, 4, "last") + some_tongues(10, 92, 4, "first")
 
 
@@ -226,6 +227,17 @@ class FaultTest(unittest.TestCase):
             self.assertEqual(waiting_fault(self.saying, least_waiting(other)), "words")
             self.assertEqual(waiting_fault(other, self.saying), "words")
 
+    def test_frames_with_the_same_roles(self):
+        noun = Stock("n", [(0, ("a",), ("b",))])
+        tongue = Tongue(["p", "q"], [noun], [Frame("go", (0,)), Frame("run", (0,)), Frame("say", (0,), 1),
+                                             Frame("ask", (0,), 1)])
+        items = [("noun", "x", 0, 0, "one"), VERB]
+        go, run = Saying(tongue, 0, items), Saying(tongue, 1, items)
+        self.assertEqual((waiting_fault(go, run), waiting_fault(run, go)), ("words", "words"))
+        say, ask = [Saying(tongue, frame, [("clause", 1, go), ("noun", "y", 0, 0, "one"), VERB]) for frame in (2, 3)]
+        self.assertEqual((waiting_fault(say, ask), waiting_fault(say, say)), ("words", None))
+        self.assertEqual(waiting_fault(say, with_clause(say, run)), "words")
+
     def test_each_as_often(self):
         one = self.built([("p", 0), ("p", 1), ("r", 2)], [("s", 4)], [("t", 0)])
         other = self.built([("p", 0), ("r", 1), ("r", 2)], [("s", 4)], [("t", 0)])
@@ -271,8 +283,8 @@ class MemoryTest(unittest.TestCase):
                 self.assertIsNone(memory_needed(tongue, 2))
                 self.assertIsNone(memory_needed(tongue, 40))
                 continue
-            turned = (lambda role, clause: (role, clause)) if tongue.verbs == "last" else (lambda role, clause: (clause, role))
-            growth = max(sum(turned(role, frame.clause) in closure for role in frame.nouns) for frame in outer)
+            way = 1 if tongue.verbs == "last" else -1
+            growth = max(sum((role, frame.clause)[::way] in closure for role in frame.nouns) for frame in outer)
             self.assertEqual(growth_of(tongue), growth)
             for depth in range(2, 40):
                 self.assertEqual(memory_needed(tongue, depth + 1) - memory_needed(tongue, depth), growth)

@@ -142,7 +142,8 @@ class LeastWearTest(unittest.TestCase):
     def tongues(self):
         found = some_tongues(30, 154, 3) + [two_roles(), two_roles([(0, 1)]), all_alike(1), all_alike(2)]
         table = [(0, ("a", "b", "a"), ("b", "b", "c")), (1, ("b", "c", "b"), ("c", "a", "b"))]
-        found += [one_frame(table), one_frame(table, [(0, 1)]), one_frame([(0, ("a",), ("b",)), (1, ("a", "b"), ("", "c"))])]
+        found += [one_frame(table), one_frame(table, [(0, 1)]),
+                  one_frame([(0, ("a",), ("b",)), (1, ("a", "b"), ("", "c"))])]
         table = [(0, ("a", "b"), ("c", "d")), (1, ("c", "a"), ("b", "a")), (2, ("", ""), ("d", "c"))]
         return found + [one_frame(table), one_frame(table, [(0, 1), (0, 2)]), one_frame(words("ab cd ef", 3), [(0, 2)])]
 
@@ -233,9 +234,10 @@ class BetweenTest(unittest.TestCase):
         self.assertEqual(kinds, {(True, True), (True, False), (False, True)})
 
     def test_names_frames_rules_and_verbs_do_not_count(self):
-        one = Tongue(["p", "q"], [Stock("n", [(0, ("a",), ("b",)), (1, ("c",), ("c",))])], [Frame("see", (0, 1))], [(0, 1)])
-        other = Tongue(["x", "y", "z"], [Stock("m", [(0, ("d",), ("d",)), (1, ("c",), ("c",))])], [Frame("go", (0,))], (),
-                       "free")
+        one = Tongue(["p", "q"], [Stock("n", [(0, ("a",), ("b",)), (1, ("c",), ("c",))])], [Frame("see", (0, 1))],
+                     [(0, 1)])
+        other = Tongue(["x", "y", "z"], [Stock("m", [(0, ("d",), ("d",)), (1, ("c",), ("c",))])], [Frame("go", (0,))],
+                       (), "free")
         self.assertEqual(wear_between(one, other).rows, (("a", "d"), ("b", "d")))
         self.assertIsNone(wear_between(other, one))
         self.assertIsNone(wear_between(one, Tongue(other.roles, [*other.stocks, Stock("o", [(0, ("a",), ("a",))])],

@@ -106,8 +106,8 @@ class CheckTest(unittest.TestCase):
 
     def test_each_form(self):
         wholes = (-1, "1", [1], *STRANGE)
-        wrong = [(), ("clear", 1), ("wholly", 1), ("swallowed",), ("swallowed", 1, 1), ("orders", 0), ("orders", 0, 1, 1),
-                 ("endings", 0), ("endings", 0, 1, 1), ("counts",), ("counts", (1, 1), 1), ("safe", (0, 1, 2, 3), 0),
+        wrong = [(), ("clear", 1), ("wholly", 1), ("swallowed",), ("swallowed", 1, 1), ("orders", 0),
+                 ("orders", 0, 1, 1), ("endings", 0), ("endings", 0, 1, 1), ("counts",), ("counts", (1, 1), 1), ("safe", (0, 1, 2, 3), 0),
                  ("safe", (0, 1, 2, 3), 0, 1, 1), ("Clear",), ("unclear",), (["clear"],), "clear", "c", *STRANGE]
         wrong += [(thing,) for thing in STRANGE]
         wrong += [("swallowed", thing) for thing in (6, *wholes)]
@@ -117,13 +117,15 @@ class CheckTest(unittest.TestCase):
             wrong += [("counts", (thing, 1)), ("counts", (1, thing))]
         wrong += [("orders", 4, 0), ("endings", 2, 0), ("safe", (0, 1, 2, 3), 4, 0), ("counts", (15, 0))]
         wrong += [("counts", counts) for counts in ((), (1,), (1, 1, 1), "ab", *STRANGE)]
-        wrong += [("safe", habit, 0, 0) for habit in ((), (0, 1, 2), (0, 1, 2, 2), (0, 1, 2, 4), (0, True, 2, 3), *STRANGE)]
+        habits = ((), (0, 1, 2), (0, 1, 2, 2), (0, 1, 2, 4), (0, True, 2, 3), *STRANGE)
+        wrong += [("safe", habit, 0, 0) for habit in habits]
         for wish in wrong:
             self.refused(0, [wish])
             self.refused(2, [("clear",), ["swallowed", 0], wish, None])
 
     def test_no_bound_above(self):
-        wishes = (("orders", 0, 10 ** 40), ("endings", 0, 10 ** 40), ("safe", (0, 1, 2, 3), 0, 10 ** 40), ("counts", (14, 14)))
+        wishes = (("orders", 0, 10 ** 40), ("endings", 0, 10 ** 40), ("safe", (0, 1, 2, 3), 0, 10 ** 40),
+                  ("counts", (14, 14)))
         self.assertEqual(check_wishes(nesting(), wishes), wishes)
 
     def test_nothing_changes(self):
@@ -234,8 +236,8 @@ class FaultTest(unittest.TestCase):
         tongue = two_roles()
         right = Exchange(0, 0, 1, 0, "one", "one")
         self.judged(None, tongue, [("clear",)], Broken(0, right))
-        wrong = [Exchange(0, 0, 1, 0, "one", "many"), Exchange(1, 0, 1, 0, "one", "one"), Exchange(0, 1, 0, 0, "one", "one"),
-                 Swallowed(right, 0), SameNumber(0, 0, 0), Broken(0, right), 0, *STRANGE]
+        wrong = [Exchange(0, 0, 1, 0, "one", "many"), Exchange(1, 0, 1, 0, "one", "one"),
+                 Exchange(0, 1, 0, 0, "one", "one"), Swallowed(right, 0), SameNumber(0, 0, 0), Broken(0, right), 0, *STRANGE]
         for why in wrong:
             self.judged("why", tongue, [("clear",)], Broken(0, why))
         self.judged("why", two_roles([(0, 1)]), [("clear",)], Broken(0, right))
