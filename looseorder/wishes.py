@@ -94,7 +94,8 @@ def _count_wished(tongue, wish):
         return how_many_orders(tongue, wish[1])
     if wish[0] == "endings":
         return len(tongue.stocks[wish[1]].endings)
-    return len(list(safe_orders(tongue, wish[1], wish[2])))
+    _, habit, frame, _ = wish
+    return len(list(safe_orders(tongue, habit, frame)))
 
 
 def broken_fault(tongue, wishes, broken):

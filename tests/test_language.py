@@ -129,6 +129,8 @@ class LanguageTest(unittest.TestCase):
         for path, node in nodes((ast.Assign, ast.Return, ast.Starred)):
             if isinstance(node.value, ast.Call) and isinstance(node.value.func, ast.Name):
                 self.assertNotIn(node.value.func.id, lazy, f"L23 {path.name}:{node.lineno}")
+        self.no([(p, n) for p, n in nodes(ast.Call) if called(n) in lazy and not all(is_plain(a) for a in n.args)],
+                "L23: beside a generator stand only names, attributes and literals")
 
     def test_names(self):
         own = set(dir(builtins))
@@ -177,6 +179,17 @@ class LanguageTest(unittest.TestCase):
         for path, node in nodes((ast.Assign, ast.Return)):
             if isinstance(node.value, ast.SetComp):
                 self.fail(f"L24 {path.name}:{node.lineno}")
+
+
+def called(node):
+    """The name of the function or method that is called."""
+    return node.func.id if isinstance(node.func, ast.Name) else getattr(node.func, "attr", None)
+
+
+def is_plain(node):
+    while isinstance(node, ast.Attribute):
+        node = node.value
+    return isinstance(node, (ast.Name, ast.Constant))
 
 
 def without_docstrings(tree):
