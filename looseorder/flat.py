@@ -50,24 +50,30 @@ def first_choice(options):
     return tuple([choices[0] for choices in options])
 
 
-def _entries_by_role(tongue, frame, thing, number):
-    # For each role that the thing can have, its entries in a pattern, "one" ahead of "many".
-    told = tongue.frames[frame]
+def entries_by_role(frame, thing, number, cells):
+    """For each role that a thing of a Frame can have, its entries in a pattern.
+
+    The cells are the couples (role, number) that a noun can have by its ending; the clause has none.
+    """
     if thing is None:
-        return {told.clause: [(told.clause, None, None)]}
-    stock, ending = thing
+        return {frame.clause: [(frame.clause, None, None)]}
     entries = {}
-    for role, told_number in bearers(tongue, stock, ending):
-        if role in told.nouns and (role != told.agreed or told_number == number):
-            entries.setdefault(role, []).append((role, stock, told_number))
+    for role, told_number in cells:
+        if role in frame.nouns and (role != frame.agreed or told_number == number):
+            entries.setdefault(role, []).append((role, thing[0], told_number))
     return entries
+
+
+def _cells_of(tongue, thing):
+    return () if thing is None else bearers(tongue, thing[0], thing[1])
 
 
 def rows_read(tongue, frame, things, number):
     """The rows of roles of the readings, ascending, each with the entries that can stand at its places."""
     told = check_things(tongue, frame, things, number)
-    entries = [_entries_by_role(tongue, frame, thing, number) for thing in told]
-    rows = rows_within(tongue.closure, tongue.frames[frame].slots, entries)
+    heard_frame = tongue.frames[frame]
+    entries = [entries_by_role(heard_frame, thing, number, _cells_of(tongue, thing)) for thing in told]
+    rows = rows_within(tongue.closure, heard_frame.slots, entries)
     return [(row, [entries[place][role] for place, role in enumerate(row)]) for row in rows]
 
 

@@ -5,7 +5,7 @@ from looseorder.flat import flat_readings, role_rows
 from looseorder.names import NUMBERS, is_among, is_each_once, is_ending, is_number, is_row, is_whole
 from looseorder.orders import is_order
 from looseorder.patterns import bearers_of_role, row_of_roles
-from looseorder.rings import demands_of, is_agreed_kept, pairs_moved, readable_goals
+from looseorder.rings import cells_fault, demands_of, is_agreed_kept, pairs_moved, readable_goals
 from looseorder.rulings import closure_of, first_row, has_ring
 from looseorder.safety import Misheard, led_row, steps_of
 from looseorder.sayable import lots_of
@@ -78,7 +78,7 @@ def misheard_fault(one, other, misheard):
     goals = [step[1] for step in misheard.steps]
     if not is_each_once(goals, nouns) or tuple(goals) == nouns:
         return "goals"
-    what = _cells_fault(one, other, misheard.steps)
+    what = cells_fault(one, other, misheard.steps)
     if what is not None:
         return what
     if not is_agreed_kept(one.frames[misheard.frame].agreed, misheard.steps):
@@ -90,19 +90,6 @@ def _are_steps(nouns, steps):
     if not is_row(steps, len(nouns), len(nouns)) or not all([is_row(step, 5, 5) for step in steps]):
         return False
     return all([is_whole(step[0], role, role) for step, role in zip(steps, nouns)])
-
-
-def _cells_fault(one, other, steps):
-    for role, goal, stock, _, _ in steps:
-        if not is_among(stock, bearers_of_role(one, role)) or stock not in bearers_of_role(other, goal):
-            return "stock"
-    for step in steps:
-        if not is_number(step[3]) or not is_number(step[4]):
-            return "number"
-    for role, goal, stock, number, mate in steps:
-        if one.ending_at(stock, role, number) != other.ending_at(stock, goal, mate):
-            return "shown"
-    return None
 
 
 def right_reading(one, other):

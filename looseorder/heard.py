@@ -1,8 +1,8 @@
 """Heard rows: what is heard of whole sayings."""
 
 from looseorder.errors import BadHeard
-from looseorder.names import is_ending, is_row, is_stem, is_whole
-from looseorder.shown import as_ending, check_places, fits_agreement, heard_number
+from looseorder.names import in_tuples, is_ending, is_row, is_stem, is_whole
+from looseorder.shown import check_places, fits_agreement, heard_number
 from looseorder.speaking import pattern_of
 
 
@@ -33,7 +33,7 @@ def check_heard(tongue, heard, most=14):
             raise BadHeard(index, what)
         if piece[0] == "noun":
             stocks[piece[1]] = piece[2]
-    return _in_tuples(heard)
+    return in_tuples(heard)
 
 
 def _piece_fault(tongue, piece, stocks):
@@ -63,17 +63,6 @@ def _verb_fault(tongue, piece):
     return None if fits_agreement(tongue.frames[frame], number) else "number"
 
 
-def _in_tuples(heard):
-    pieces = []
-    for piece in heard:
-        if piece[0] == "noun":
-            _, stem, stock, ending = piece
-            pieces.append(("noun", stem, stock, as_ending(ending)))
-        else:
-            pieces.append(tuple(piece))
-    return tuple(pieces)
-
-
 def places_of_nouns(heard):
     """The places of the nouns in a heard row."""
     return [place for place, piece in enumerate(heard) if piece[0] == "noun"]
@@ -82,7 +71,7 @@ def places_of_nouns(heard):
 def swallow(heard, places):
     """The pieces with the endings of the nouns at the places swallowed."""
     told = check_places(places, places_of_nouns(heard))
-    return _in_tuples([(*piece[:3], None) if place in told else piece for place, piece in enumerate(heard)])
+    return in_tuples([(*piece[:3], None) if place in told else piece for place, piece in enumerate(heard)])
 
 
 def depths_of(saying):

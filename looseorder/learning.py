@@ -1,11 +1,11 @@
 """What a learner can tell from lessons, and what to ask next."""
 
 from looseorder.coincide import Exchange, common_bearers, couples_of, first_exchange
-from looseorder.flat import choices_of
+from looseorder.flat import choices_of, entries_by_role
 from looseorder.lessons import does_keep_book
 from looseorder.names import LETTERS, NUMBERS
 from looseorder.rulings import rows_keeping, rows_within
-from looseorder.shown import check_things
+from looseorder.shown import bearers, check_things
 from looseorder.tongues import check_frame, with_tables
 
 
@@ -41,27 +41,23 @@ def meanings_of(lessons, frame, things, number):
     """All readings of the things and the heard number in some tongue that fits, in the order of readings."""
     told = check_things(lessons.tongue, frame, things, number)
     known = _known_cells(lessons)
-    entries = [_entries_by_role(lessons.tongue, frame, thing, number, known) for thing in told]
+    heard_frame = lessons.tongue.frames[frame]
+    entries = [entries_by_role(heard_frame, thing, number, _cells_left(lessons.tongue, thing, known)) for thing in told]
     found = []
-    for row in rows_within((), lessons.tongue.frames[frame].slots, entries):
+    for row in rows_within((), heard_frame.slots, entries):
         if any([does_keep_book(row, book) for book in lessons.books]):
             options = [entries[place][role] for place, role in enumerate(row)]
             found += list(choices_of(options))
     return tuple(found)
 
 
-def _entries_by_role(tongue, frame, thing, number, known):
-    # For each role that the thing can have in some tongue, its entries in a pattern, "one" ahead of "many".
-    told = tongue.frames[frame]
+def _cells_left(tongue, thing, known):
+    # The couples (role, number) of a noun for which no other ending is told.
     if thing is None:
-        return {told.clause: [(told.clause, None, None)]}
+        return ()
     stock, ending = thing
-    entries = {}
-    for role in [role for role in tongue.stocks[stock].borne if role in told.nouns]:
-        mates = (number,) if role == told.agreed else NUMBERS
-        entries[role] = [(role, stock, mate) for mate in mates
-                         if ending is None or known.get((stock, role, mate), ending) == ending]
-    return entries
+    return [(role, number) for role, number in bearers(tongue, stock, None)
+            if ending is None or known.get((stock, role, number), ending) == ending]
 
 
 def _filled_tongue(lessons, book, known):

@@ -1,10 +1,10 @@
 """Rings: misreadings of a whole pattern, in which each noun is read in the role of another."""
 
-from looseorder.coincide import alike_across, are_shown_alike, common_bearers
+from looseorder.coincide import alike_across
 from looseorder.counts import check_counts, counts_of_stocks, does_fit, with_count
 from looseorder.errors import BadRing
 from looseorder.names import NUMBERS, is_among, is_each_once, is_number, is_whole, number_rank
-from looseorder.patterns import rows_of_frame
+from looseorder.patterns import bearers_of_role, rows_of_frame
 from looseorder.rulings import does_keep, has_ring, within
 from looseorder.tongues import check_frame, check_role
 
@@ -48,7 +48,7 @@ def ring_fault(tongue, ring, counts=None):
         return "steps"
     if not is_each_once([step[1] for step in ring.steps], nouns):
         return "goal"
-    what = _cells_fault(tongue, ring.steps)
+    what = cells_fault(tongue, tongue, ring.steps)
     if what is not None:
         return what
     what = _whole_fault(tongue, ring, _moves_of(ring))
@@ -66,15 +66,16 @@ def _are_steps(nouns, steps):
     return all([is_whole(step[0], role, role) for step, role in zip(steps, nouns)])
 
 
-def _cells_fault(tongue, steps):
+def cells_fault(one, other, steps):
+    """The first word that tells why the endings said in one tongue are not so read by the other, or None."""
     for role, goal, stock, _, _ in steps:
-        if not is_among(stock, common_bearers(tongue, role, goal)):
+        if not is_among(stock, bearers_of_role(one, role)) or stock not in bearers_of_role(other, goal):
             return "stock"
     for step in steps:
         if not is_number(step[3]) or not is_number(step[4]):
             return "number"
     for role, goal, stock, number, mate in steps:
-        if not are_shown_alike(tongue, stock, (role, number), (goal, mate)):
+        if one.ending_at(stock, role, number) != other.ending_at(stock, goal, mate):
             return "shown"
     return None
 
@@ -100,8 +101,13 @@ def ring_patterns(tongue, ring):
         raise BadRing(what)
     demands = demands_of(tongue, tongue, ring.frame, _moves_of(ring))
     row = [order for order in rows_of_frame(tongue, ring.frame) if does_keep(order, demands)][0]
-    said = {step[0]: (step[0], step[2], step[3]) for step in ring.steps}
-    read = {step[0]: (step[1], step[2], step[4]) for step in ring.steps}
+    return patterns_of_steps(ring.steps, row)
+
+
+def patterns_of_steps(steps, row):
+    """The pattern that is said in this row of roles, and the one that is read."""
+    said = {step[0]: (step[0], step[2], step[3]) for step in steps}
+    read = {step[0]: (step[1], step[2], step[4]) for step in steps}
     # The clause has no step: it stands where it is said.
     return (tuple([said.get(role, (role, None, None)) for role in row]),
             tuple([read.get(role, (role, None, None)) for role in row]))

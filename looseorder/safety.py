@@ -4,7 +4,7 @@ from looseorder.habits import check_habit, is_row_ahead, rank_of_row
 from looseorder.needed import check_few_roles
 from looseorder.orders import check_order
 from looseorder.patterns import rows_of_frame
-from looseorder.rings import readable_goals
+from looseorder.rings import patterns_of_steps, readable_goals
 from looseorder.rulings import does_keep, rows_keeping, within
 
 
@@ -23,10 +23,7 @@ class Misheard:
 
 def misheard_patterns(misheard):
     """The pattern that is said and the one that is read."""
-    said = {step[0]: (step[0], step[2], step[3]) for step in misheard.steps}
-    read = {step[0]: (step[1], step[2], step[4]) for step in misheard.steps}
-    return (tuple([said.get(role, (role, None, None)) for role in misheard.order]),
-            tuple([read.get(role, (role, None, None)) for role in misheard.order]))
+    return patterns_of_steps(misheard.steps, misheard.order)
 
 
 def led_row(order, nouns, goals):

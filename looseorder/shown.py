@@ -1,7 +1,7 @@
 """What is heard of one clause: things and the heard number."""
 
 from looseorder.errors import BadPlaces, BadThings
-from looseorder.names import NUMBERS, ending_from, is_among, is_ending, is_number, is_row, is_whole
+from looseorder.names import NUMBERS, ending_from, in_tuples, is_among, is_ending, is_number, is_row, is_whole
 from looseorder.patterns import check_pattern
 from looseorder.tongues import check_frame, check_stock
 
@@ -62,22 +62,13 @@ def check_things(tongue, frame, things, number):
         raise BadThings(0, "clause")
     if not fits_agreement(told, number):
         raise BadThings(0, "number")
-    return _in_tuples(things)
+    return in_tuples(things)
 
 
 def _is_noun_thing(tongue, thing):
     if not is_row(thing, 2, 2) or not is_whole(thing[0], 0, len(tongue.stocks) - 1):
         return False
     return thing[1] is None or is_ending(thing[1])
-
-
-def _in_tuples(things):
-    return tuple([None if thing is None else (thing[0], as_ending(thing[1])) for thing in things])
-
-
-def as_ending(ending):
-    """A right ending as a tuple; None, that of a swallowed one, stays."""
-    return None if ending is None else tuple(ending)
 
 
 def noun_places(things):
@@ -109,4 +100,4 @@ def hide_endings(things, places):
     """The things with the endings of the nouns at the places swallowed."""
     told = check_places(places, noun_places(things))
     hidden = [(thing[0], None) if place in told else thing for place, thing in enumerate(things)]
-    return _in_tuples(hidden)
+    return in_tuples(hidden)
